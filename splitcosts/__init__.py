@@ -1,0 +1,1 @@
+"""Splitcosts: aids for linear equations, and what they cost for all errors."""

@@ -1,0 +1,52 @@
+"""The examples of the interface, as they stand."""
+
+import doctest
+import unittest
+
+TOGETHER = '''
+>>> from splitcosts.together import damped_table, dies_with, exact_team, falls_to, greatest_ratio_near, has_ratios_from, has_ratios_up_to, is_team, is_whole_team, least_ratio_near, least_team_cost, summed_table, team_cost, team_prices, team_split, unfalling
+>>> nil, half, one, two, less = (0, 1), (1, 2), (1, 1), (2, 1), (-1, 1)
+>>> link, ends = ((two, less), (less, two)), (((one, nil),), ((nil, one),))
+>>> team = exact_team(link, ends)
+>>> [team, summed_table(link, team), is_whole_team(link, team), is_whole_team(link, team[:1]), is_team(link, ())]
+[(((((1, 1), (0, 1)),), (((2, 1),),)), ((((0, 1), (1, 1)),), (((2, 1),),))), (((1, 2), (0, 1)), ((0, 1), (1, 2))), True, False, False]
+>>> [least_team_cost(link, team, (one, one)), team_split(link, team, (one, one)), team_prices(link, team, (one, one)), team_cost(link, team, ((two,), (one,)))]
+[(4, 1), (((1, 1),), ((1, 1),)), ((2, 1), (2, 1)), (10, 1)]
+>>> [least_ratio_near(link, team, 4), greatest_ratio_near(link, team, 3), has_ratios_from(link, team, half), has_ratios_up_to(link, team, one), least_ratio_near(link, team[:1], 9)]
+[(2, True), (4, False), True, False, (0, True)]
+>>> [dies_with(link, team, one), dies_with(link, team, (4, 3)), unfalling(link, team, one), falls_to(link, team, one, half), falls_to(link, team, one, (1, 3)), damped_table(link, team, one)]
+[True, False, None, True, False, (((0, 1), (1, 2)), ((1, 2), (0, 1)))]
+'''
+
+COARSE = '''
+>>> from splitcosts.coarse import barring_rows, best_factor_near, best_rows, coarse_beyond, coarse_factor_near, has_coarse_factor, least_count, measure, smoothed_table, two_grids
+>>> nil, one, two, half = (0, 1), (1, 1), (2, 1), (1, 2)
+>>> firm, lower, first = ((two, one), (one, two)), ((two, nil), (one, two)), ((one, nil),)
+>>> [smoothed_table(firm, lower), measure(firm, lower, (1, 4)), measure(firm, lower, nil)]
+[(((2, 1), (1, 1)), ((1, 1), (5, 2))), (((1, 8), (0, 1)), ((0, 1), (0, 1))), (((-1, 24), (1, 12)), ((1, 12), (-1, 6)))]
+>>> [two_grids(firm, lower, first)[0], coarse_factor_near(firm, lower, first, 8), coarse_factor_near(firm, lower, (), 7), has_coarse_factor(firm, lower, first, (1, 4)), has_coarse_factor(firm, lower, first, (1, 5)), coarse_beyond(firm, lower, first, (1, 4))]
+[((((1, 1), (0, 1)),), (((2, 1),),)), (2, True), (1, False), True, False, None]
+>>> [least_count(firm, lower, (1, 4)), least_count(firm, lower, nil), best_factor_near(firm, lower, (), 1, 5), best_factor_near(firm, lower, first, 1, 8), best_rows(firm, lower, (), 0, nil), barring_rows(firm, lower, (), 1, nil)]
+[0, 1, (0, True), (2, True), None, None]
+>>> found = best_rows(firm, lower, (), 1, nil)
+>>> [coarse_factor_near(firm, lower, found, 3), len(barring_rows(firm, lower, (), 0, nil)), best_rows(firm, lower, first, 1, nil), len(barring_rows(firm, lower, first, 1, nil))]
+[(0, True), 1, None, 1]
+'''
+
+
+class Examples(unittest.TestCase):
+    def runs(self, text, many):
+        test = doctest.DocTestParser().get_doctest(text, {}, self.id(), None, 0)
+        told = []
+        found = doctest.DocTestRunner(verbose=False).run(test, out=told.append)
+        self.assertEqual((found.failed, found.attempted), (0, many), "".join(told))
+
+    def test_together(self):
+        self.runs(TOGETHER, 8)
+
+    def test_coarse(self):
+        self.runs(COARSE, 8)
+
+
+if __name__ == "__main__":
+    unittest.main()
