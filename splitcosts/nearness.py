@@ -70,9 +70,10 @@ def greatest_holding(holds):
 
 
 def near_root(table, at, many):
-    """Return near for MANY one of the numbers x for which TABLE, of some row not noughts, makes x times this row.
+    """Return near for MANY a number x for which TABLE makes of some row other than noughts x times this row.
 
-    All of them have to be real and from 0 on; AT is its index if they are told ascending, each as often as it counts.
+    All such numbers have to be real and from 0 on; AT is the index of the one that is asked for, told ascending and
+    each as often as it counts as a root.
     """
     rows, divisor = whole_table(table)
     numbers = root_polynomial([[many * number for number in row] for row in rows])

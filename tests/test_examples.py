@@ -1,6 +1,7 @@
-"""The examples of the interface, as they stand."""
+"""The examples of the interface, as they stand, and those of README.md."""
 
 import doctest
+import pathlib
 import unittest
 
 TOGETHER = '''
@@ -46,6 +47,10 @@ class Examples(unittest.TestCase):
 
     def test_coarse(self):
         self.runs(COARSE, 8)
+
+    def test_readme(self):
+        text = (pathlib.Path(__file__).resolve().parent.parent / "README.md").read_text(encoding="utf-8")
+        self.runs(text.split("```")[1], 11)
 
 
 if __name__ == "__main__":

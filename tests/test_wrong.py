@@ -287,6 +287,33 @@ class Wrong(unittest.TestCase):
                 self.assertLess(coarse.best_factor_near(LINK, LOWER, kept, count, 10 ** 6)[0], 10 ** 6)
 
 
+class Great(unittest.TestCase):
+    """What was returned may be passed, whatever the size of its numbers."""
+
+    def test_what_was_returned_is_let(self):
+        great = 10 ** 399
+        table = (((great, great - 1), (-1, 3)), ((-1, 3), (1, great + 1)))
+        table = together.summed_table(h.table(h.units(2)), (((FIRST + SECOND), self.positive(table)),))
+        team = together.exact_team(table, (FIRST, SECOND, FIRST + SECOND))
+        row = together.unfalling(table, team, (great, great + 7))
+        prices = together.team_prices(table, team, row)
+        split = together.team_split(table, team, prices)
+        self.assertEqual(together.team_cost(table, team, split), together.least_team_cost(table, team, prices))
+        self.assertEqual(together.greatest_ratio_near(table, team, 1)[0], 2)
+        lower = (table[0][:1] + ((0, 1),), table[1])
+        smoothed = coarse.smoothed_table(table, lower)
+        self.assertEqual(coarse.coarse_factor_near(smoothed, smoothed, (row,), 10 ** 6), (0, True))
+        beyond = coarse.coarse_beyond(table, lower, (), (0, 1))
+        self.assertIs(coarse.has_coarse_factor(table, lower, (beyond,), (0, 1)), False)
+        found = coarse.best_rows(table, lower, (), 1, (0, 1))
+        self.assertEqual(coarse.best_rows(table, lower, found, 1, (0, 1)), found)
+        self.assertEqual(coarse.coarse_factor_near(table, lower, found, 1), (0, True))
+
+    def positive(self, table):
+        rows = h.grid(table)
+        return h.table(h.product(rows, h.turned(rows)))
+
+
 class NotWhole(unittest.TestCase):
     FUNCTIONS = (together.least_team_cost, together.team_split, together.team_prices)
 
