@@ -1,11 +1,10 @@
 """Two grids: a few coarse rows that are solved exactly and a smoother, and the best coarse rows."""
 
 from splitcosts.checks import check_coarse, check_many, check_number_from, check_share, check_table_and_smoother
-from splitcosts.checks import gap_of_smoother
 from splitcosts.forms import is_from_nought, rows_below, signs_of, squares_of
 from splitcosts.fracs import NIL, ONE, minus
 from splitcosts.nearness import near_root
-from splitcosts.rows import form_on, mixed, multiplied, table_less, turned_over, unit_rows
+from splitcosts.rows import form_on, gap_of, mixed, multiplied, table_less, turned_over, unit_rows
 from splitcosts.spans import inverse, loose_places, noughts_basis
 
 
@@ -17,7 +16,7 @@ def check_kept_and_count(table, smoother, kept, count):
 
 def smoothed_inverse(table, smoother):
     """Return the inverse of S = M D^-1 M', M being the smoother and D its gap."""
-    return form_on(gap_of_smoother(table, smoother), turned_over(inverse(smoother)))
+    return form_on(gap_of(table, smoother), turned_over(inverse(smoother)))
 
 
 def measure_of(table, smoother, most):
@@ -63,7 +62,7 @@ def two_grids(table, smoother, coarse):
 def smoothed_table(table, smoother):
     """Return S = M D^-1 M', M being the smoother and D its gap."""
     check_table_and_smoother(table, smoother)
-    return form_on(inverse(gap_of_smoother(table, smoother)), smoother)
+    return form_on(inverse(gap_of(table, smoother)), smoother)
 
 
 def measure(table, smoother, most):

@@ -69,3 +69,8 @@ def table_plus(first, second):
 def table_less(first, factor, second):
     """Return FIRST - FACTOR * SECOND."""
     return tuple([row_less(row, factor, other) for row, other in zip(first, second)])
+
+
+def gap_of(form, solver):
+    """Return SOLVER + SOLVER' - FORM, FORM being the table on the rows of an aid."""
+    return table_less(table_plus(solver, turned_over(solver)), ONE, form)

@@ -42,6 +42,11 @@ def steps_of(rows):
     return steps
 
 
+def are_all(rows):
+    """Tell whether each row is a sum of multiples of ROWS; there is one of these."""
+    return len(steps_of(rows)) == len(rows[0])
+
+
 def loose_places(rows, many):
     """Return the places at which none of the steps of ROWS, rows of MANY numbers, leads."""
     led = [first_place(step) for step in steps_of(rows)]

@@ -238,3 +238,132 @@ def two_grid_errors(form, smoother, coarse):
 def has_factor(form, errors, share):
     """Whether FOR ALL errors the energy behind is at most SHARE times the one ahead."""
     return is_from_nought(combined(share, form, -1, on(form, turned(errors))))
+
+
+def is_whole(rows, many):
+    """Whether each row of MANY numbers is a sum of multiples of ROWS: R'R is positive."""
+    return is_positive(product(turned(rows), rows)) if rows else many == 0
+
+
+def drawn_forms(draw, many):
+    """Forms that are 0, 0 along only, from 0 on and not positive, below 0, of both signs, and positive."""
+    yield [[Fraction(0)] * many for _ in range(many)]
+    for _ in range(3):
+        rows = [[drawn_fraction(draw, 2) for _ in range(many)] for _ in range(many)]
+        form = combined(1, rows, 1, turned(rows))
+        yield form
+        yield [[Fraction(0) if at == place else x for place, x in enumerate(row)] for at, row in enumerate(form)]
+        thin = [[drawn_fraction(draw, 2)] for _ in range(many)]
+        yield product(thin, turned(thin))
+    positive = drawn_positive(draw, many)
+    yield positive
+    yield [[-x for x in row] for row in positive]
+    rows = drawn_free(draw, many - 1, many)
+    if rows:
+        yield product(turned(rows), rows)
+
+
+def less_gap(form, aid):
+    """The gap M + M' - W A W' of an aid, or of any rows with any solver."""
+    rows, solver = grid(aid[0]), grid(aid[1])
+    return combined(1, combined(1, solver, 1, turned(solver)), -1, on(form, rows))
+
+
+def exact_aid(form, rows):
+    return (table(rows), table(on(form, rows)))
+
+
+def drawn_aid(draw, form, count=None):
+    """An aid that is exact, or that has a drawn gap and a solver that is not alike turned over."""
+    rows = drawn_free(draw, count or draw.randint(1, len(form)), len(form))
+    if draw.randint(0, 2) == 0:
+        return exact_aid(form, rows)
+    return (table(rows), table(drawn_smoother(draw, on(form, rows))))
+
+
+def drawn_method(draw, form, aids, count=None):
+    return tuple(drawn_aid(draw, form, count) for _ in range(aids))
+
+
+def drawn_methods(seed):
+    """Tables of 1 to 5 rows with drawn methods: of one aid, of two, three and eight aids, whole and not."""
+    for many in range(1, 6):
+        for at, aids in enumerate((1, 2, 3, 8)):
+            draw = draws(1000 * seed + 10 * many + at)
+            form = drawn_positive(draw, many, 2)
+            yield draw, form, table(form), drawn_method(draw, form, aids, 1 if at == 1 else None)
+
+
+def all_rows(method):
+    return [numbers(row) for rows, _ in method for row in rows]
+
+
+def sum_of_rows(factors, rows, many):
+    found = [Fraction(0)] * many
+    for factor, row in zip(factors, rows):
+        found = [x + factor * y for x, y in zip(found, row)]
+    return found
+
+
+def less(first, second):
+    return [x - y for x, y in zip(first, second)]
+
+
+def numbers_taken(form, aid, error):
+    """M^-1 (W A e)."""
+    return times(inverse(grid(aid[1])), times(grid(aid[0]), times(form, error)))
+
+
+def aid_step(form, aid, error):
+    return less(error, sum_of_rows(numbers_taken(form, aid, error), grid(aid[0]), len(form)))
+
+
+def method_step(form, method, error):
+    """What the aids make of an error, one behind another."""
+    for aid in method:
+        error = aid_step(form, aid, error)
+    return error
+
+
+def error_table(form, method):
+    return turned([method_step(form, method, row) for row in units(len(form))])
+
+
+def turned_about(method):
+    return tuple((rows, tuple(zip(*solver))) for rows, solver in reversed(method))
+
+
+def joined(form, method):
+    """L, number by number: each with the aids of its row and of its column."""
+    owners = [(at, place) for at, (rows, _) in enumerate(method) for place in range(len(rows))]
+
+    def entry(row, column):
+        if row[0] == column[0]:
+            return number(method[row[0]][1][row[1]][column[1]])
+        if row[0] < column[0]:
+            return Fraction(0)
+        return dot(numbers(method[row[0]][0][row[1]]), times(form, numbers(method[column[0]][0][column[1]])))
+
+    return [[entry(row, column) for column in owners] for row in owners]
+
+
+def mean(form, method):
+    """B, by E* E = 1 - B A with E* worked out aid by aid."""
+    back = product(error_table(form, turned_about(method)), error_table(form, method))
+    return product(combined(1, units(len(form)), -1, back), inverse(form))
+
+
+def cut(flat, method):
+    """The numbers of FLAT as a split for the method."""
+    found = []
+    for rows, _ in method:
+        found.append(pairs(flat[:len(rows)]))
+        flat = flat[len(rows):]
+    return tuple(found)
+
+
+def split_cost(form, method, split):
+    """The sum of the worths of the inverse gaps at the parts of L' u."""
+    flat = [number(x) for part in split for x in part]
+    charges = cut(times(turned(joined(form, method)), flat), method)
+    return sum(worth(inverse(less_gap(form, aid)), numbers(charge)) for aid, charge in zip(method, charges))

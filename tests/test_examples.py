@@ -2,7 +2,38 @@
 
 import doctest
 import pathlib
+import re
 import unittest
+
+FIRST = '''
+>>> from splitcosts.tables import energy_product, is_table, low_row, signs, squares, worth
+>>> nil, half, one, two, less = (0, 1), (1, 2), (1, 1), (2, 1), (-1, 1)
+>>> pair, swap, plain = ((two, one), (one, two)), ((nil, one), (one, nil)), ((one, nil), (nil, one))
+>>> [is_table(pair), is_table(((one, two),)), signs(pair), signs(swap), signs(((one, one), (one, one))), low_row(pair), worth(pair, (one, less))]
+[True, False, (2, 0, 0), (1, 0, 1), (1, 1, 0), None, (2, 1)]
+>>> [energy_product(pair, (one, nil), (nil, one)), worth(swap, low_row(swap))[0] <= 0, len(squares(swap))]
+[(1, 1), True, 2]
+>>> from splitcosts.aids import exact_aid, fall, gap, is_aid, lot_aids, point_aids, smoother_aid, step, unsafe_row
+>>> twice = ((two, nil), (nil, two))
+>>> first, second = point_aids(pair)
+>>> [first, second == exact_aid(pair, ((nil, one),)), is_aid(pair, (((one, nil),), ((half,),))), gap(pair, plain, twice), unsafe_row(pair, plain, twice)]
+[((((1, 1), (0, 1)),), (((2, 1),),)), True, False, (((2, 1), (-1, 1)), ((-1, 1), (2, 1))), None]
+>>> [step(pair, first, (nil, two)), fall(pair, first, (nil, two)), step(pair, smoother_aid(pair, twice), (one, nil)), lot_aids(pair, ((0, 1),))[0][1] == pair]
+[((-1, 1), (2, 1)), (2, 1), ((0, 1), (-1, 2)), True]
+>>> smoother_aid(pair, plain)
+raises NotSafe()
+>>> from splitcosts.methods import error_table, is_whole, joined_table, mean_table, run, staying_error, there_and_back, turned
+>>> sweep = (first, second)
+>>> [error_table(pair, sweep), run(pair, sweep, (nil, (4, 1)), 2), joined_table(pair, sweep), mean_table(pair, sweep)]
+[(((0, 1), (-1, 2)), ((0, 1), (1, 4))), ((-1, 2), (1, 4)), ((((1, 1), (0, 1)), ((0, 1), (1, 1))), (((2, 1), (0, 1)), ((1, 1), (2, 1)))), (((5, 8), (-1, 4)), ((-1, 4), (1, 2)))]
+>>> [turned(pair, sweep) == (second, first), len(there_and_back(pair, sweep)), is_whole(pair, sweep), is_whole(pair, (first,)), energy_product(pair, (one, nil), staying_error(pair, (first,)))]
+[True, 4, True, False, (0, 1)]
+>>> from splitcosts.splits import best_price, least_cost, least_split, price_bound, split_cost, split_sum
+>>> [split_sum(pair, sweep, ((one,), (two,))), split_cost(pair, sweep, ((one,), (two,))), least_cost(pair, sweep, (one, two)), least_split(pair, sweep, (one, two)), least_cost(pair, sweep, (nil, one))]
+[((1, 1), (2, 1)), (16, 1), (16, 1), (((1, 1),), ((2, 1),)), (5, 2)]
+>>> [best_price(pair, sweep, (nil, one)), price_bound(pair, sweep, (one, (5, 2)), (nil, one)), price_bound(pair, sweep, (nil, one), (nil, one))]
+[((1, 1), (5, 2)), (5, 2), (3, 2)]
+'''
 
 TOGETHER = '''
 >>> from splitcosts.together import damped_table, dies_with, exact_team, falls_to, greatest_ratio_near, has_ratios_from, has_ratios_up_to, is_team, is_whole_team, least_ratio_near, least_team_cost, summed_table, team_cost, team_prices, team_split, unfalling
@@ -37,10 +68,15 @@ COARSE = '''
 
 class Examples(unittest.TestCase):
     def runs(self, text, many):
+        # What the document tells as "raises NotSafe()" stands here as Python tells it.
+        text = re.sub(r"(?m)^raises (\w+)\(\)$", r"Traceback (most recent call last):\n    ...\nsplitcosts.errors.\1", text)
         test = doctest.DocTestParser().get_doctest(text, {}, self.id(), None, 0)
         told = []
         found = doctest.DocTestRunner(verbose=False).run(test, out=told.append)
         self.assertEqual((found.failed, found.attempted), (0, many), "".join(told))
+
+    def test_tables_aids_methods_and_splits(self):
+        self.runs(FIRST, 18)
 
     def test_together(self):
         self.runs(TOGETHER, 8)
@@ -50,7 +86,7 @@ class Examples(unittest.TestCase):
 
     def test_readme(self):
         text = (pathlib.Path(__file__).resolve().parent.parent / "README.md").read_text(encoding="utf-8")
-        self.runs(text.split("```")[1], 11)
+        self.runs(text.split("```")[1], 23)
 
 
 if __name__ == "__main__":

@@ -29,6 +29,10 @@ INTERFACE = {
                "InvalidAmount", "InvalidLot", "InvalidSmoother", "InvalidWeight", "TooMany", "InvalidRow", "InvalidRows",
                "InvalidMethod", "InvalidSplit", "InvalidLots", "InvalidTeam", "InvalidSpans", "InvalidParts",
                "InvalidLadder", "NotWhole", "NotSafe"],
+    "tables": ["is_table", "worth", "signs", "squares", "low_row", "energy_product"],
+    "aids": ["is_aid", "gap", "unsafe_row", "exact_aid", "smoother_aid", "step", "fall", "point_aids", "lot_aids"],
+    "methods": ["error_table", "run", "turned", "there_and_back", "joined_table", "mean_table", "is_whole", "staying_error"],
+    "splits": ["split_sum", "split_cost", "least_split", "least_cost", "best_price", "price_bound"],
     "together": ["is_team", "exact_team", "summed_table", "is_whole_team", "team_cost", "least_team_cost", "team_split",
                  "team_prices", "has_ratios_from", "has_ratios_up_to", "least_ratio_near", "greatest_ratio_near",
                  "damped_table", "dies_with", "unfalling", "falls_to"],
@@ -169,6 +173,13 @@ class Modules(unittest.TestCase):
             defined = [node.name for node in tree_of(PACKAGE / f"{module}.py").body if isinstance(node, kind)]
             self.assertLessEqual(set(names), set(defined))
             self.assertEqual(len(defined), len(set(defined)))
+
+    def test_each_function_is_used(self):
+        used = {node.id for path in FILES for node in walk(path, ast.Name) if isinstance(node.ctx, ast.Load)}
+        used |= {name for names in INTERFACE.values() for name in names}
+        for path in FILES:
+            for node in walk(path, ast.FunctionDef):
+                self.assertTrue(node.name in used or node.name == "__init__", (path, node.name))
 
     def test_classes(self):
         for path in FILES:
@@ -315,6 +326,14 @@ class Names(unittest.TestCase):
             for node in walk(path, ast.Assign, ast.Return):
                 if isinstance(node.value, ast.Call) and isinstance(node.value.func, ast.Name):
                     self.assertNotIn(node.value.func.id, ("zip", "enumerate", "reversed", "range"), (path, node.lineno))
+
+    def test_what_is_counted_or_reversed_is_no_zip(self):
+        for path in FILES:
+            for node in walk(path, ast.Call):
+                if isinstance(node.func, ast.Name) and node.func.id in ("len", "reversed"):
+                    inner = node.args[0].func if isinstance(node.args[0], ast.Call) else None
+                    barred = isinstance(inner, ast.Name) and inner.id in ("zip", "enumerate", "reversed")
+                    self.assertFalse(barred, (path, node.lineno))
 
 
 if __name__ == "__main__":

@@ -3,225 +3,9 @@ import inspect
 import unittest
 
 import helpers as h
-from splitcosts import coarse, errors, together
-
-LINK = h.table(((2, -1), (-1, 2)))
-FIRST, SECOND = (((1, 1), (0, 1)),), (((0, 1), (1, 1)),)
-AID = (FIRST, (((2, 1),),))
-TEAM = (AID, (SECOND, (((2, 1),),)))
-LOWER = h.table(((2, 0), (-1, 2)))
-ROW = ((1, 1), (1, 2))
-
-
-class Odd:
-    """A value that answers nothing."""
-
-    def refuse(self, *told):
-        raise RuntimeError("asked")
-
-    __eq__ = __ne__ = __len__ = __iter__ = __bool__ = __getitem__ = __contains__ = __lt__ = __int__ = refuse
-    __hash__ = None
-
-
-def nested(deep):
-    value = 1
-    for at in range(deep):
-        value = [value] if at % 2 else (value,)
-    return value
-
-
-# What is no tuple at all.
-NO_TUPLES = (None, True, False, 0, 1, -1, 10 ** 399, "", "text", b"text", [], [1], {}, {0: 1}, set(), range(2), object(),
-             Odd(), len, int, nested(14), {"a": nested(13)}, [(1, 1), (1, 2)], iter(()))
-NO_FRACTIONS = NO_TUPLES + ((), (1,), (1, 1, 1), (1, 0), (1, -1), (0, -1), (2, 4), (0, 2), (-2, 2), (True, 1), (1, True),
-                            (1, None), ("1", "2"), [1, 2], ((1, 1), 1), (1, (1, 1)), (1, [1]), (Odd(), 1), (1, Odd()),
-                            (10 ** 399, 10 ** 398), ((1, 1),), nested(12), (nested(12), 1))
-NO_WHOLE_NUMBERS = tuple(value for value in NO_TUPLES if type(value) is not int) + ((), (1,), (1, 1), (2, 1))
-
-
-def with_wrong(good, wrong):
-    """GOOD, a tuple, with WRONG in the place of each of its elements in turn; and where."""
-    for at in range(len(good)):
-        yield good[:at] + (wrong,) + good[at + 1:], at
-
-
-def wrong_tables():
-    yield from NO_TUPLES
-    yield ()
-    yield h.table(h.units(6))
-    yield [list(row) for row in LINK]
-    yield list(LINK)
-    yield LINK[:1]
-    yield LINK + LINK[:1]
-    yield tuple(row[:1] for row in LINK)
-    yield tuple(row + row[:1] for row in LINK)
-    for wrong in NO_TUPLES + ((), LINK[0][:1], LINK[0] + LINK[0], list(LINK[0])):
-        for value, _ in with_wrong(LINK, wrong):
-            yield value
-    for wrong in NO_FRACTIONS:
-        yield (((2, 1), wrong), (wrong, (2, 1)))
-        yield ((wrong, (0, 1)), ((0, 1), (2, 1)))
-        yield ((wrong,),)
-
-
-def wrong_forms():
-    """Tables, but not alike turned over or not positive."""
-    for rows in (((2, 1), (0, 2)), ((2, -1), (1, 2)), ((1, 1), (1, 1)), ((0, 0), (0, 0)), ((0,),), ((-1,),), ((0, 1), (1, 0)),
-                 ((-2, 1), (1, -2)), ((1, 2), (2, 1)), ((1, 0, 0), (0, 1, 0), (0, 0, -1)),
-                 ((2, -1, -1), (-1, 2, -1), (-1, -1, 2)), ((1, 0, 0, 0), (0, 1, 0, 0), (0, 0, 0, 0), (0, 0, 0, 1))):
-        yield h.table(rows)
-
-
-def wrong_rows(let_none):
-    """Rows, and the index."""
-    for value in NO_TUPLES:
-        yield value, None
-    if not let_none:
-        yield (), None
-    yield list(FIRST), None
-    for wrong in NO_TUPLES + ((), ROW[:1], ROW + ROW[:1], list(ROW), ((0, 1), (0, 1)), ((1, 1), (2, 4)), ((1, 0), (1, 1)),
-                              ((True, 1), (0, 1)), (1, 1), ROW + (None,)):
-        yield (wrong,), 0
-        yield FIRST + (wrong,), 1
-        yield (wrong, wrong), 0
-        yield (wrong,) + SECOND, 0
-        yield FIRST + SECOND + (wrong,), 2
-    yield FIRST + (((-7, 3), (0, 1)),), 1
-    yield FIRST + SECOND + FIRST, 2
-    yield FIRST + SECOND + (((1, 1), (1, 1)), 5), 2
-    yield FIRST + FIRST + (5,), 1
-
-
-def wrong_row():
-    for value in NO_TUPLES:
-        yield value, None
-    for value in ((), ROW[:1], ROW + ROW[:1], list(ROW), (ROW,)):
-        yield value, None
-    for wrong in NO_FRACTIONS:
-        for value, at in with_wrong(ROW, wrong):
-            yield value, at
-        yield (wrong, wrong), 0
-
-
-def wrong_team():
-    for value in NO_TUPLES:
-        yield value, None
-    yield (), None
-    yield list(TEAM), None
-    for wrong in wrong_team_aids():
-        yield (wrong,), 0
-        yield TEAM + (wrong,), 2
-        yield TEAM + (wrong, wrong), 2
-    yield (AID,) * 9, 8
-    yield (AID,) * 12, 8
-    yield (AID,) * 8 + (None,), 8
-    yield (AID,) * 4 + (None,) + (AID,) * 4, 4
-    yield (None,) * 9, 0
-    yield AID, 0
-
-
-def wrong_team_aids():
-    rows, solver = AID
-    yield from NO_TUPLES
-    yield from ((), (rows,), (rows, solver, solver), [rows, solver], (solver, rows), (rows, None), (rows, (2, 1)))
-    for value, _ in wrong_rows(False):
-        yield (value, solver)
-        yield (value, LINK)
-    for value in wrong_tables():
-        yield (rows, value)
-        yield (FIRST + SECOND, value)
-    for value in wrong_forms():
-        yield (h.table(h.units(len(value))) if len(value) == 2 else rows, value)
-    yield (rows, LINK)
-    yield (FIRST + SECOND, solver)
-    yield ((((1, 1),),), solver)
-    yield (h.table(h.units(3))[:1], solver)
-
-
-def wrong_spans():
-    for value in NO_TUPLES:
-        yield value, None
-    yield (), None
-    yield [FIRST], None
-    for value, _ in wrong_rows(False):
-        yield (value,), 0
-        yield (FIRST, value, value), 1
-    yield (FIRST,) * 9, 8
-    yield (FIRST,) * 8 + (None,), 8
-    yield (FIRST, None) + (FIRST,) * 7, 1
-    yield FIRST, 0
-
-
-def wrong_parts():
-    good = (((1, 1),), ((2, 1),))
-    for value in NO_TUPLES:
-        yield value, None
-    for value in ((), good[:1], good + good[:1], list(good)):
-        yield value, None
-    for wrong in NO_FRACTIONS:
-        for value, at in with_wrong(good, (wrong,)):
-            yield value, at
-    for wrong in NO_TUPLES + ((), ((1, 1), (1, 1)), [(1, 1)], (1, 1)):
-        for value, at in with_wrong(good, wrong):
-            yield value, at
-        yield (wrong, wrong), 0
-
-
-def wrong_smoothers():
-    yield from wrong_tables()
-    for rows in (((1, 0), (0, 1)), ((1, 0), (-1, 1)), ((0, 0), (0, 0)), ((-2, 0), (0, -2)), ((1, 0), (0, 9)), ((1, 5), (-6, 9)),
-                 ((1, 0, 0), (0, 1, 0), (0, 0, 1)), ((5,),)):
-        yield h.table(rows)
-
-
-def given(error, values):
-    return [(value, error, "given", value) for value in values]
-
-
-def index(error, values):
-    return [(value, error, "index", at) for value, at in values]
-
-
-NO_COUNTS = NO_WHOLE_NUMBERS + (-1, 3, 10 ** 6)
-WRONG = {
-    "table": given(errors.InvalidTable, list(wrong_tables()) + list(wrong_forms())),
-    "team": index(errors.InvalidTeam, wrong_team()),
-    "spans": index(errors.InvalidSpans, wrong_spans()),
-    "parts": index(errors.InvalidParts, wrong_parts()),
-    "row": index(errors.InvalidRow, wrong_row()),
-    "number": given(errors.InvalidAmount, NO_FRACTIONS + ((-1, 1), (-1, 10 ** 9))),
-    "damping": given(errors.InvalidAmount, NO_FRACTIONS + ((-1, 1), (-1, 10 ** 9), (0, 1))),
-    "root": given(errors.InvalidShare, NO_FRACTIONS + ((-1, 2), (1, 1), (2, 1), (10 ** 9 + 1, 10 ** 9))),
-    "most": given(errors.InvalidShare, NO_FRACTIONS + ((-1, 2), (1, 1), (2, 1), (10 ** 9 + 1, 10 ** 9))),
-    "many": given(errors.InvalidNumber, NO_WHOLE_NUMBERS + (0, -1, 10 ** 6 + 1, 10 ** 9)),
-    "smoother": given(errors.InvalidSmoother, wrong_smoothers()),
-    "coarse": index(errors.InvalidRows, wrong_rows(True)),
-    "kept": index(errors.InvalidRows, wrong_rows(True)),
-    "count": given(errors.InvalidNumber, NO_COUNTS + (0,)),
-}
-GOOD = {"table": LINK, "team": TEAM, "spans": (FIRST, SECOND), "parts": (((1, 1),), ((2, 1),)), "row": ROW, "number": (1, 2),
-        "damping": (1, 3), "root": (1, 2), "most": (1, 9), "many": 7, "smoother": LOWER, "coarse": FIRST, "kept": FIRST,
-        "count": 2, "value": TEAM}
-TOGETHER = {
-    "is_team": "table value", "exact_team": "table spans", "summed_table": "table team", "is_whole_team": "table team",
-    "team_cost": "table team parts", "least_team_cost": "table team row", "team_split": "table team row",
-    "team_prices": "table team row", "has_ratios_from": "table team number", "has_ratios_up_to": "table team number",
-    "least_ratio_near": "table team many", "greatest_ratio_near": "table team many", "damped_table": "table team damping",
-    "dies_with": "table team damping", "unfalling": "table team damping", "falls_to": "table team damping root",
-}
-COARSE = {
-    "two_grids": "table smoother coarse", "smoothed_table": "table smoother", "measure": "table smoother most",
-    "has_coarse_factor": "table smoother coarse most", "coarse_beyond": "table smoother coarse most",
-    "coarse_factor_near": "table smoother coarse many", "least_count": "table smoother most",
-    "best_rows": "table smoother kept count most", "barring_rows": "table smoother kept count most",
-    "best_factor_near": "table smoother kept count many",
-}
-
-
-def functions():
-    for module, told in ((together, TOGETHER), (coarse, COARSE)):
-        for name, words in told.items():
-            yield getattr(module, name), words.split()
+from splitcosts import aids, coarse, errors, methods, splits, tables, together
+from wrongs import AID, FIRST, GOOD, LINK, LOWER, METHOD, ROW, SECOND, SWAP, TEAM, UNSAFE, WRONG, functions, wrong_tables
+from wrongs import wrong_uneven
 
 
 class Wrong(unittest.TestCase):
@@ -314,7 +98,7 @@ class Great(unittest.TestCase):
         return h.table(h.product(rows, h.turned(rows)))
 
 
-class NotWhole(unittest.TestCase):
+class NotWholeTeams(unittest.TestCase):
     FUNCTIONS = (together.least_team_cost, together.team_split, together.team_prices)
 
     def test_it_is_raised(self):
@@ -343,6 +127,147 @@ class NotWhole(unittest.TestCase):
         self.assertEqual(together.greatest_ratio_near(LINK, some, 3), (3, True))
         self.assertIs(together.has_ratios_up_to(LINK, some, (1, 1)), True)
         self.assertEqual(together.damped_table(LINK, some, (1, 1)), (((0, 1), (1, 2)), ((0, 1), (1, 1))))
+
+
+class NotWholeMethods(unittest.TestCase):
+    FUNCTIONS = (splits.least_split, splits.least_cost, splits.best_price)
+
+    def test_it_is_raised(self):
+        for told in self.FUNCTIONS:
+            for row in (ROW, ((0, 1), (0, 1)), FIRST[0], SECOND[0]):
+                for method in ((AID,), (AID,) * 8, (AID, (FIRST, (((9, 1),),)))):
+                    with self.assertRaises(errors.NotWhole) as caught:
+                        told(LINK, method, row)
+                    self.assertIs(type(caught.exception), errors.NotWhole)
+                    self.assertRaises(errors.NotWhole, lambda: told(row=row, method=method, table=LINK))
+
+    def test_it_is_last(self):
+        for told in self.FUNCTIONS:
+            for row, at in (((1, 1), 0), (ROW[:1], None), (list(ROW), None), ((ROW[0], (2, 4)), 1)):
+                with self.assertRaises(errors.InvalidRow) as caught:
+                    told(LINK, (AID,), row)
+                self.assertEqual(caught.exception.index, at)
+            self.assertRaises(errors.InvalidTable, told, None, (AID,), None)
+            self.assertRaises(errors.InvalidMethod, told, LINK, (AID, None), None)
+
+    def test_others_do_not_ask_for_a_whole_method(self):
+        for told, names in functions():
+            if "method" in names and told not in self.FUNCTIONS:
+                arguments = {name: GOOD[name] for name in names} | {"method": (AID,)}
+                if "split" in names:
+                    arguments["split"] = (((1, 1),),)
+                told(**arguments)
+
+
+class NotSafe(unittest.TestCase):
+    def test_it_is_raised(self):
+        for solver in UNSAFE:
+            for call in (lambda: aids.smoother_aid(LINK, solver), lambda: aids.smoother_aid(solver=solver, table=LINK)):
+                with self.assertRaises(errors.NotSafe) as caught:
+                    call()
+                self.assertIs(type(caught.exception), errors.NotSafe)
+
+    def test_it_is_last(self):
+        self.assertRaises(errors.InvalidTable, aids.smoother_aid, SWAP, UNSAFE[0])
+        self.assertRaises(errors.InvalidSolver, aids.smoother_aid, LINK, list(UNSAFE[0]))
+        self.assertRaises(errors.InvalidSolver, aids.smoother_aid, LINK, h.table(((5,),)))
+
+    def test_others_do_not_ask_for_it(self):
+        for solver in UNSAFE:
+            self.assertEqual(len(aids.gap(LINK, FIRST + SECOND, solver)), 2)
+            self.assertEqual(len(aids.unsafe_row(LINK, FIRST + SECOND, solver)), 2)
+
+
+class TooMany(unittest.TestCase):
+    def test_it_is_raised(self):
+        for many in range(5, 9):
+            for call in (lambda method: methods.there_and_back(LINK, method),
+                         lambda method: methods.there_and_back(method=method, table=LINK)):
+                with self.assertRaises(errors.TooMany) as caught:
+                    call((METHOD * 4)[:many])
+                self.assertIs(type(caught.exception), errors.TooMany)
+                self.assertEqual((caught.exception.given, type(caught.exception.given)), (2 * many, int))
+
+    def test_four_aids_are_let(self):
+        for many in range(1, 5):
+            self.assertEqual(len(methods.there_and_back(LINK, (METHOD * 2)[:many])), 2 * many)
+
+    def test_it_is_last(self):
+        self.assertRaises(errors.InvalidTable, methods.there_and_back, SWAP, (AID,) * 5)
+        for method, at in (((AID,) * 5 + (None,), 5), ((AID,) * 9, 8), ([AID] * 5, None)):
+            with self.assertRaises(errors.InvalidMethod) as caught:
+                methods.there_and_back(LINK, method)
+            self.assertEqual(caught.exception.index, at)
+
+
+class IsTable(unittest.TestCase):
+    def test_it_raises_nothing_for_a_value(self):
+        for value in wrong_tables():
+            self.assertIs(tables.is_table(value), False)
+            self.assertIs(tables.is_table(value=value), False)
+        for name in ("team", "method", "rows", "row", "lots", "aid"):
+            for value, _, _, _ in WRONG[name]:
+                self.assertIs(type(tables.is_table(value)), bool)
+            self.assertIs(tables.is_table(GOOD[name]), name == "rows")
+
+    def test_tables(self):
+        for value in list(wrong_uneven()) + [LINK, SWAP, LOWER, h.table(((0,),)), h.table(((-1,),))]:
+            self.assertIs(tables.is_table(value), True)
+        for many in range(1, 7):
+            table = h.table(h.units(many))
+            self.assertIs(tables.is_table(table), many < 6)
+            self.assertIs(tables.is_table(((((0, 1),) * many),) * many), many < 6)
+            self.assertIs(tables.is_table(list(table)), False)
+            self.assertIs(tables.is_table(table[:-1]), False)
+            self.assertIs(tables.is_table(table + table[:1]), False)
+        self.assertIs(tables.is_table((((10 ** 399, 10 ** 399 - 1),),)), True)
+
+
+class IsAid(unittest.TestCase):
+    def test_it_raises_nothing_for_a_value(self):
+        for value, _, _, _ in WRONG["aid"]:
+            self.assertIs(aids.is_aid(LINK, value), False)
+            self.assertIs(aids.is_aid(value=value, table=LINK), False)
+        for value, _, _, _ in WRONG["method"]:
+            self.assertIs(type(aids.is_aid(LINK, value)), bool)
+
+    def test_the_table_is_checked(self):
+        for value, _, _, _ in WRONG["table"]:
+            for aid in (AID, None, ()):
+                with self.assertRaises(errors.InvalidTable) as caught:
+                    aids.is_aid(value, aid)
+                self.assertIs(caught.exception.given, value)
+
+    def test_aids(self):
+        for aid in METHOD + TEAM + ((FIRST, (((1001, 1000),),)), (FIRST, (((10 ** 399, 1),),)), (FIRST + SECOND, LINK)):
+            self.assertIs(aids.is_aid(LINK, aid), True)
+
+
+class Solvers(unittest.TestCase):
+    """A solver has as many rows as `rows` has, and where there are none as the table has."""
+
+    def test_of_some_rows(self):
+        three = h.table(h.units(3))
+        for count in range(1, 4):
+            for size in range(1, 6):
+                solver = h.table(h.units(size))
+                for told in (aids.gap, aids.unsafe_row):
+                    if size == count:
+                        told(three, three[:count], solver)
+                        continue
+                    with self.assertRaises(errors.InvalidSolver) as caught:
+                        told(three, three[:count], solver)
+                    self.assertIs(caught.exception.given, solver)
+
+    def test_of_all_rows(self):
+        for size in range(1, 6):
+            solver = h.table(h.units(size))
+            if size == 3:
+                self.assertEqual(aids.smoother_aid(h.table(h.units(3)), solver), (solver, solver))
+                continue
+            with self.assertRaises(errors.InvalidSolver) as caught:
+                aids.smoother_aid(h.table(h.units(3)), solver)
+            self.assertIs(caught.exception.given, solver)
 
 
 class IsTeam(unittest.TestCase):
@@ -382,9 +307,42 @@ class Edges(unittest.TestCase):
     def test_tables_of_six_rows(self):
         six = h.table(h.units(6))
         for told, names in functions():
-            with self.assertRaises(errors.InvalidTable) as caught:
-                told(six, *[GOOD[name] for name in names[1:]])
-            self.assertIs(caught.exception.given, six)
+            if names[0] != "value":
+                with self.assertRaises(errors.InvalidForm if names[0] == "form" else errors.InvalidTable) as caught:
+                    told(six, *[GOOD[name] for name in names[1:]])
+                self.assertIs(caught.exception.given, six)
+
+    def test_rounds(self):
+        for rounds in range(41):
+            self.assertEqual(methods.run(LINK, (AID,), ((0, 1), (2, 1)), rounds), ((1 if rounds else 0, 1), (2, 1)))
+        for rounds in (-1, 41, True, False, None, (1, 1), "1"):
+            with self.assertRaises(errors.InvalidNumber) as caught:
+                methods.run(LINK, METHOD, ROW, rounds)
+            self.assertIs(caught.exception.given, rounds)
+
+    def test_rows_are_checked_by_the_size_of_the_table(self):
+        """The first place that is wrong, for tables of 1 to 5 rows."""
+        for many in range(1, 6):
+            units = h.table(h.units(many))
+            method = aids.point_aids(units)
+            for size in range(7):
+                row = ((1, 1),) * size
+                for call in (lambda: tables.worth(units, row), lambda: tables.energy_product(units, units[0], row),
+                             lambda: aids.step(units, method[0], row), lambda: methods.run(units, method, row, 1),
+                             lambda: splits.price_bound(units, method, row, units[0])):
+                    if size == many:
+                        call()
+                        continue
+                    with self.assertRaises(errors.InvalidRow) as caught:
+                        call()
+                    self.assertIsNone(caught.exception.index)
+
+    def test_the_row_stands_ahead_of_the_other(self):
+        for row, other, at in (((1, 1), ROW[:1], 0), ((ROW[0], 1), None, 1), (None, (1, 1), None)):
+            for told in (lambda: tables.energy_product(LINK, row, other), lambda: splits.price_bound(LINK, METHOD, row, other)):
+                with self.assertRaises(errors.InvalidRow) as caught:
+                    told()
+                self.assertEqual(caught.exception.index, at)
 
     def test_counts(self):
         three = h.table(h.units(3))

@@ -1,0 +1,88 @@
+"""Each function of tables, aids, methods and splits for tables of 1 to 5 rows: by position, by name and again."""
+
+import copy
+import unittest
+
+import helpers as h
+from splitcosts import aids, errors, methods, splits, tables
+from wrongs import functions
+
+MODULES = [module.__name__ for module in (tables, aids, methods, splits)]
+
+
+def drawn_arguments(draw, many, names):
+    form = h.drawn_positive(draw, many)
+    drawn = h.drawn_positive(draw, many)
+    method = h.drawn_method(draw, form, 2) + (h.drawn_aid(draw, form, many),)
+    rows = h.drawn_free(draw, draw.randint(1, many), many)
+    solver = h.drawn_smoother(draw, form)
+    if "rows" in names:
+        solver = [[h.drawn_fraction(draw) for _ in rows] for _ in rows]
+    lots = [tuple(sorted(draw.sample(range(many), draw.randint(1, many)))) for _ in range(3)]
+    given = {
+        "table": h.table(form), "form": h.table(h.combined(1, form, -1, drawn)), "row": h.pairs(h.drawn_row(draw, many)),
+        "other": h.pairs(h.drawn_row(draw, many)), "price": h.pairs(h.drawn_row(draw, many)), "rows": h.table(rows),
+        "solver": h.table(solver), "aid": method[0], "method": method, "lots": tuple(lots), "rounds": draw.randint(0, 3),
+        "split": tuple(h.pairs([h.drawn_fraction(draw) for _ in part]) for part, _ in method),
+        "value": method[1] if len(names) > 1 else h.table(form),
+    }
+    return {name: given[name] for name in names}
+
+
+def is_plain(value):
+    """Whether it is made of tuples, whole numbers and truths alone."""
+    if type(value) is tuple:
+        return all(is_plain(part) for part in value)
+    return value is None or type(value) in (int, bool)
+
+
+class Again(unittest.TestCase):
+    def test_by_position_by_name_and_again(self):
+        seen = 0
+        for told, names in functions():
+            if told.__module__ not in MODULES:
+                continue
+            for many in range(1, 6):
+                with self.subTest(function=told.__name__, many=many):
+                    seen += 1
+                    arguments = drawn_arguments(h.draws(many), many, names)
+                    kept = copy.deepcopy(arguments)
+                    found = told(*arguments.values())
+                    self.assertTrue(is_plain(found))
+                    self.assertEqual(told(**arguments), found)
+                    self.assertEqual(told(**dict(reversed(list(arguments.items())))), found)
+                    self.assertEqual(told(*copy.deepcopy(list(arguments.values()))), found)
+                    self.assertEqual(arguments, kept)
+        self.assertEqual(seen, 5 * 29)
+
+    def test_what_was_returned_is_let(self):
+        """Whatever the size of its numbers."""
+        great = 10 ** 399
+        table = (((great, great - 1), (-1, 3)), ((-1, 3), (1, great + 1)))
+        table = h.table(h.product(h.grid(table), h.turned(h.grid(table))))
+        method = aids.point_aids(table) + aids.lot_aids(table, ((0, 1),))
+        method = methods.there_and_back(table, method[:2]) + method[2:]
+        self.assertIs(tables.is_table(methods.mean_table(table, method)), True)
+        row = methods.run(table, method[:1], ((great, 1), (1, great)), 40)
+        price = splits.best_price(table, method[:2], row)
+        split = splits.least_split(table, method[:2], price)
+        self.assertEqual(splits.split_sum(table, method[:2], split), price)
+        self.assertEqual(splits.split_cost(table, method[:2], split), splits.least_cost(table, method[:2], price))
+        mean = methods.mean_table(table, method[:2])
+        self.assertEqual(tables.signs(mean), (2, 0, 0))
+        self.assertGreater(tables.worth(mean, methods.staying_error(table, method[:1]))[0], 0)
+        self.assertEqual(aids.step(mean, aids.exact_aid(mean, mean), split[0] + split[1]), ((0, 1), (0, 1)))
+        self.assertEqual(aids.gap(mean, h.table(h.units(2)), mean), mean)
+        self.assertIs(aids.is_aid(mean, aids.smoother_aid(mean, mean)), True)
+
+    def test_an_error_changes_nothing(self):
+        table = h.table(((2, -1), (-1, 2)))
+        method = aids.point_aids(table)
+        found = methods.error_table(table, method)
+        self.assertRaises(errors.InvalidMethod, methods.error_table, table, method + (None,))
+        self.assertRaises(errors.TooMany, methods.there_and_back, table, method * 3)
+        self.assertEqual(methods.error_table(table, method), found)
+
+
+if __name__ == "__main__":
+    unittest.main()
