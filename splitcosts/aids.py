@@ -1,13 +1,14 @@
 """Aids: rows and a solver, by which errors lose energy."""
 
 from splitcosts.checks import check_lots, check_row, check_solver, check_table, check_table_and_aid
-from splitcosts.checks import check_table_and_rows, is_aid_for, smooths
+from splitcosts.checks import check_table_and_rows
 from splitcosts.errors import NotSafe
 from splitcosts.forms import low_rows, worth_at
 from splitcosts.fracs import ONE
-from splitcosts.rows import applied, mixed, row_less, unit_row, unit_rows
+from splitcosts.kinds import is_aid_for, smooths
+from splitcosts.rows import applied, mixed, row_less, unit_rows
 from splitcosts.spans import inverse
-from splitcosts.sweeps import exact_aid_of, gap_at
+from splitcosts.sweeps import exact_aid_of, gap_at, lot_aid, smoothing_aid
 
 
 def answer_to(table, aid, row):
@@ -47,7 +48,7 @@ def smoother_aid(table, solver):
     check_solver(solver, len(table))
     if not smooths(table, solver):
         raise NotSafe()
-    return (unit_rows(len(table)), solver)
+    return smoothing_aid(solver)
 
 
 def step(table, aid, row):
@@ -74,4 +75,4 @@ def lot_aids(table, lots):
     """Return the exact aids of the unit rows of each lot of indexes."""
     check_table(table)
     check_lots(lots, len(table))
-    return tuple([exact_aid_of(table, tuple([unit_row(len(table), at) for at in lot])) for lot in lots])
+    return tuple([lot_aid(table, lot) for lot in lots])

@@ -4,8 +4,9 @@ from splitcosts.checks import check_coarse, check_many, check_number_from, check
 from splitcosts.forms import is_from_nought, rows_below, signs_of, squares_of
 from splitcosts.fracs import NIL, ONE, minus
 from splitcosts.nearness import near_root
-from splitcosts.rows import form_on, gap_of, mixed, multiplied, table_less, turned_over, unit_rows
+from splitcosts.rows import form_on, gap_of, mixed, multiplied, table_less, turned_over
 from splitcosts.spans import inverse, loose_places, noughts_basis
+from splitcosts.sweeps import exact_aid_of, smoothing_aid
 
 
 def check_kept_and_count(table, smoother, kept, count):
@@ -53,10 +54,9 @@ def two_grids(table, smoother, coarse):
     """Return the method of the exact aid of the COARSE rows, if there are any, and the smoother behind it."""
     check_table_and_smoother(table, smoother)
     check_coarse(coarse, len(table))
-    smoothing = (unit_rows(len(table)), smoother)
     if len(coarse) == 0:
-        return (smoothing,)
-    return ((coarse, form_on(table, coarse)), smoothing)
+        return (smoothing_aid(smoother),)
+    return (exact_aid_of(table, coarse), smoothing_aid(smoother))
 
 
 def smoothed_table(table, smoother):

@@ -1,7 +1,8 @@
 """Methods: aids that are taken in order, again and again."""
 
-from splitcosts.checks import MOST_AIDS, check_rounds, check_row, check_table_and_method
+from splitcosts.checks import check_rounds, check_row, check_table_and_method
 from splitcosts.errors import TooMany
+from splitcosts.kinds import MOST_AIDS
 from splitcosts.rows import applied, multiplied
 from splitcosts.spans import are_all, noughts_basis
 from splitcosts.sweeps import errors_by, joined_solver, mean_of, rows_of, turned_method

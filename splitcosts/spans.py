@@ -47,6 +47,11 @@ def are_all(rows):
     return len(steps_of(rows)) == len(rows[0])
 
 
+def are_in_span(others, rows):
+    """Tell whether each of OTHERS, rows as well, is a sum of multiples of ROWS."""
+    return len(steps_of(rows + others)) == len(steps_of(rows))
+
+
 def loose_places(rows, many):
     """Return the places at which none of the steps of ROWS, rows of MANY numbers, leads."""
     led = [first_place(step) for step in steps_of(rows)]

@@ -1,11 +1,10 @@
 """Splits of rows among the spans of a method's aids, their least cost, and prices that no split goes below."""
 
-from splitcosts.checks import check_row, check_split, check_table_and_method
-from splitcosts.errors import NotWhole
+from splitcosts.checks import check_row, check_split, check_table_and_method, check_whole
 from splitcosts.forms import worth_at
 from splitcosts.fracs import minus, times
 from splitcosts.rows import applied, dot
-from splitcosts.spans import are_all, inverse
+from splitcosts.spans import inverse
 from splitcosts.sweeps import added_up, cost_of, mean_of, rows_of, split_by
 
 
@@ -37,8 +36,7 @@ def best_price(table, method, row):
     """Return the price B^-1 v for the row v, by which the bound is the least cost."""
     check_table_and_method(table, method)
     check_row(row, len(table))
-    if not are_all(rows_of(method)):
-        raise NotWhole()
+    check_whole(rows_of(method))
     return applied(inverse(mean_of(table, method)), row)
 
 

@@ -3,12 +3,21 @@
 from splitcosts.forms import worth_at
 from splitcosts.fracs import NIL, ONE, total
 from splitcosts.rows import applied, form_on, gap_of, mixed, multiplied, row_less, row_plus, table_less, table_plus
-from splitcosts.rows import turned_over, unit_rows
+from splitcosts.rows import turned_over, unit_row, unit_rows
 from splitcosts.spans import inverse
 
 
 def exact_aid_of(table, rows):
     return (rows, form_on(table, rows))
+
+
+def lot_aid(table, lot):
+    """Return the exact aid of the unit rows of the indexes LOT."""
+    return exact_aid_of(table, tuple([unit_row(len(table), at) for at in lot]))
+
+
+def smoothing_aid(solver):
+    return (unit_rows(len(solver)), solver)
 
 
 def gap_at(table, aid):

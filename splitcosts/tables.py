@@ -1,7 +1,8 @@
 """Tables and forms: worths, squares and their signs, and the energy."""
 
-from splitcosts.checks import check_form, check_row, check_table, is_any_table
+from splitcosts.checks import check_form, check_row, check_table
 from splitcosts.forms import low_rows, signs_of, squares_of, worth_at
+from splitcosts.kinds import is_any_table
 from splitcosts.rows import applied, dot
 
 

@@ -1,10 +1,11 @@
 """Teams: aids that are taken all at once, so that all of them see the same error."""
 
-from splitcosts.checks import MOST_AIDS, check_amount, check_damping, check_many, check_parts, check_row, check_share
-from splitcosts.checks import check_spans, check_table, check_table_and_team, is_team_aid, is_tuple
+from splitcosts.checks import check_amount, check_damping, check_many, check_parts, check_row, check_share
+from splitcosts.checks import check_spans, check_table, check_table_and_team
 from splitcosts.errors import NotWhole
 from splitcosts.forms import is_positive, low_rows, signs_of, worth_at
 from splitcosts.fracs import ONE, minus, over, plus, total
+from splitcosts.kinds import is_team_of
 from splitcosts.nearness import near_root
 from splitcosts.rows import applied, dot, form_on, multiplied, table_less, table_plus, table_times, turned_over
 from splitcosts.rows import unit_rows
@@ -30,9 +31,7 @@ def ratio_signs(table, team, number):
 def is_team(table, value):
     """Tell whether VALUE, whatever it is, is a team for TABLE."""
     check_table(table)
-    if not is_tuple(value) or not 1 <= len(value) <= MOST_AIDS:
-        return False
-    return all([is_team_aid(aid, len(table)) for aid in value])
+    return is_team_of(value, len(table))
 
 
 def exact_team(table, spans):

@@ -193,6 +193,17 @@ def drawn_free(draw, count, many):
             return rows
 
 
+def drawn_spans(draw, many, more=0):
+    """Two spans, together all rows: with as many as MORE rows in both, if there are so many."""
+    least = min(1 + more, many)
+    count = draw.randint(least, max(least, many - 1))
+    first = drawn_free(draw, count, many)
+    while True:
+        second = drawn_free(draw, min(max(many - count + more, 1), many), many)
+        if rank(first + second) == many:
+            return first, second
+
+
 def drawn_team(draw, many, aids):
     found = []
     for _ in range(aids):
@@ -238,6 +249,17 @@ def two_grid_errors(form, smoother, coarse):
 def has_factor(form, errors, share):
     """Whether FOR ALL errors the energy behind is at most SHARE times the one ahead."""
     return is_from_nought(combined(share, form, -1, on(form, turned(errors))))
+
+
+def is_near(form, left, found, many):
+    """Whether FOUND tells near for MANY the greatest (worth of LEFT) / (worth of the positive FORM), below 1."""
+    k, is_just = found
+    here = combined(Fraction(k, many), form, -1, left)
+    if type(k) is not int or type(is_just) is not bool or not 0 <= k < many:
+        return False
+    if not is_positive(combined(Fraction(k + 1, many), form, -1, left)) or is_positive(here):
+        return False
+    return is_from_nought(here) == is_just
 
 
 def is_whole(rows, many):
@@ -292,6 +314,14 @@ def drawn_methods(seed):
             draw = draws(1000 * seed + 10 * many + at)
             form = drawn_positive(draw, many, 2)
             yield draw, form, table(form), drawn_method(draw, form, aids, 1 if at == 1 else None)
+
+
+def whole_methods(seed):
+    """Drawn methods, each with exact aids of the single places behind it, in the place of its last ones, where it is not whole."""
+    for draw, form, told, method in drawn_methods(seed):
+        if not is_whole(all_rows(method), len(form)):
+            method = method[:3] + tuple(exact_aid(form, [row]) for row in units(len(form)))
+        yield draw, form, told, method
 
 
 def all_rows(method):

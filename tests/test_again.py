@@ -1,13 +1,13 @@
-"""Each function of tables, aids, methods and splits for tables of 1 to 5 rows: by position, by name and again."""
+"""Each function of most files of the interface for tables of 1 to 5 rows: by position, by name and again."""
 
 import copy
 import unittest
 
 import helpers as h
-from splitcosts import aids, errors, methods, splits, tables
+from splitcosts import aids, colours, errors, factors, inner, methods, splits, tables, twospans
 from wrongs import functions
 
-MODULES = [module.__name__ for module in (tables, aids, methods, splits)]
+MODULES = [module.__name__ for module in (tables, aids, methods, splits, factors, colours, twospans, inner)]
 
 
 def drawn_arguments(draw, many, names):
@@ -19,12 +19,18 @@ def drawn_arguments(draw, many, names):
     if "rows" in names:
         solver = [[h.drawn_fraction(draw) for _ in rows] for _ in rows]
     lots = [tuple(sorted(draw.sample(range(many), draw.randint(1, many)))) for _ in range(3)]
+    first, second = h.drawn_spans(draw, many)
+    inner_lot = tuple(sorted(draw.sample(range(many), draw.randint(1, max(many - 1, 1)))))
     given = {
         "table": h.table(form), "form": h.table(h.combined(1, form, -1, drawn)), "row": h.pairs(h.drawn_row(draw, many)),
         "other": h.pairs(h.drawn_row(draw, many)), "price": h.pairs(h.drawn_row(draw, many)), "rows": h.table(rows),
         "solver": h.table(solver), "aid": method[0], "method": method, "lots": tuple(lots), "rounds": draw.randint(0, 3),
         "split": tuple(h.pairs([h.drawn_fraction(draw) for _ in part]) for part, _ in method),
-        "value": method[1] if len(names) > 1 else h.table(form),
+        "value": method[1] if len(names) > 1 else h.table(form), "most": (draw.randint(1, 9), draw.choice((11, 13))),
+        "many": draw.randint(1, 10 ** 6), "team": h.drawn_team(draw, many, 3), "first": h.table(first),
+        "second": h.table(second), "inner": inner_lot,
+        "numbers": h.pairs([h.drawn_fraction(draw) for _ in range(many - len(inner_lot))]),
+        "coarse": h.table(h.drawn_free(draw, draw.randint(0, many), many)),
     }
     return {name: given[name] for name in names}
 
@@ -46,6 +52,10 @@ class Again(unittest.TestCase):
                 with self.subTest(function=told.__name__, many=many):
                     seen += 1
                     arguments = drawn_arguments(h.draws(many), many, names)
+                    if "inner" in names and many == 1:
+                        # There are no inner indexes.
+                        self.assertRaises(errors.InvalidLot, told, *arguments.values())
+                        continue
                     kept = copy.deepcopy(arguments)
                     found = told(*arguments.values())
                     self.assertTrue(is_plain(found))
@@ -53,7 +63,7 @@ class Again(unittest.TestCase):
                     self.assertEqual(told(**dict(reversed(list(arguments.items())))), found)
                     self.assertEqual(told(*copy.deepcopy(list(arguments.values()))), found)
                     self.assertEqual(arguments, kept)
-        self.assertEqual(seen, 5 * 29)
+        self.assertEqual(seen, 5 * 44)
 
     def test_what_was_returned_is_let(self):
         """Whatever the size of its numbers."""

@@ -155,18 +155,9 @@ class Factors(unittest.TestCase):
                 errors = h.two_grid_errors(form, smoother, coarse)
                 for many in (1, 7, 1000, 10 ** 6):
                     found = c.coarse_factor_near(table, given, h.table(coarse), many)
-                    self.assertEqual([type(part) for part in found], [int, bool])
-                    self.is_near(form, errors, found, many)
+                    self.assertTrue(h.is_near(form, h.on(form, h.turned(errors)), found, many))
                     named = c.coarse_factor_near(many=many, coarse=h.table(coarse), smoother=given, table=table)
                     self.assertEqual(named, found)
-
-    def is_near(self, form, errors, found, many):
-        k, is_just = found
-        left = h.on(form, h.turned(errors))
-        self.assertTrue(0 <= k < many)
-        self.assertTrue(h.is_positive(h.combined(Fraction(k + 1, many), form, -1, left)))
-        self.assertFalse(h.is_positive(h.combined(Fraction(k, many), form, -1, left)))
-        self.assertIs(h.is_from_nought(h.combined(Fraction(k, many), form, -1, left)), is_just)
 
     def test_all_rows_leave_nothing(self):
         for draw, form, _, table, given in cases():

@@ -35,6 +35,15 @@ raises NotSafe()
 [((1, 1), (5, 2)), (5, 2), (3, 2)]
 '''
 
+FACTORS = '''
+>>> from splitcosts.factors import beyond, ends_at_once, factor_near, has_factor
+>>> [has_factor(pair, sweep, (1, 4)), has_factor(pair, sweep, (1, 5)), beyond(pair, sweep, (1, 4)), factor_near(pair, sweep, 10), factor_near(pair, sweep, 4), factor_near(pair, there_and_back(pair, sweep), 16)]
+[True, False, None, (2, False), (1, True), (1, True)]
+>>> far = beyond(pair, sweep, (1, 5))
+>>> [5 * worth(pair, run(pair, sweep, far, 1))[0] * worth(pair, far)[1] > worth(pair, far)[0] * worth(pair, run(pair, sweep, far, 1))[1], ends_at_once(pair, lot_aids(pair, ((0, 1),))), ends_at_once(pair, sweep)]
+[True, True, False]
+'''
+
 TOGETHER = '''
 >>> from splitcosts.together import damped_table, dies_with, exact_team, falls_to, greatest_ratio_near, has_ratios_from, has_ratios_up_to, is_team, is_whole_team, least_ratio_near, least_team_cost, summed_table, team_cost, team_prices, team_split, unfalling
 >>> nil, half, one, two, less = (0, 1), (1, 2), (1, 1), (2, 1), (-1, 1)
@@ -48,6 +57,24 @@ TOGETHER = '''
 [(2, True), (4, False), True, False, (0, True)]
 >>> [dies_with(link, team, one), dies_with(link, team, (4, 3)), unfalling(link, team, one), falls_to(link, team, one, half), falls_to(link, team, one, (1, 3)), damped_table(link, team, one)]
 [True, False, None, True, False, (((0, 1), (1, 2)), ((1, 2), (0, 1)))]
+'''
+
+COLOURS = '''
+>>> from splitcosts.colours import colouring, colours_of, do_touch
+>>> from splitcosts.twospans import common_rows, product_near, product_pair, product_up_to
+>>> from splitcosts.inner import ends_with, extended, harmonic_rows, outer_table
+>>> chain = ((two, less, nil), (less, two, less), (nil, less, two))
+>>> points = exact_team(chain, (((one, nil, nil),), ((nil, one, nil),), ((nil, nil, one),)))
+>>> [do_touch(link, ends[0], ends[1]), colours_of(link, team), colours_of(chain, points), colouring(chain, points) in ((0, 1, 0), (1, 0, 1)), do_touch(chain, ((one, nil, nil),), ((nil, nil, one),))]
+[True, 2, 2, True, False]
+>>> [product_near(link, ends[0], ends[1], 8), product_up_to(link, ends[0], ends[1], (1, 4)), product_up_to(link, ends[0], ends[1], (1, 5)), product_pair(link, ends[0], ends[1], (1, 4)), common_rows(link, ends[0], ends[1])]
+[(2, True), True, False, None, ()]
+>>> [harmonic_rows(chain, (1,)), outer_table(chain, (1,)), harmonic_rows(chain, (0, 2)), outer_table(chain, (0, 2))]
+[(((1, 1), (1, 2), (0, 1)), ((0, 1), (1, 2), (1, 1))), (((3, 2), (-1, 2)), ((-1, 2), (3, 2))), (((1, 2), (1, 1), (1, 2)),), (((1, 1),),)]
+>>> [extended(chain, (1,), (one, two)), ends_with(chain, (0, 2), ((half, one, half),)), ends_with(chain, (0, 2), ((nil, one, nil),)), ends_with(chain, (0, 2), ())]
+[((1, 1), (3, 2), (2, 1)), True, False, False]
+>>> product_near(link, ends[0], ends[0], 8)
+raises NotWhole()
 '''
 
 COARSE = '''
@@ -75,18 +102,18 @@ class Examples(unittest.TestCase):
         found = doctest.DocTestRunner(verbose=False).run(test, out=told.append)
         self.assertEqual((found.failed, found.attempted), (0, many), "".join(told))
 
-    def test_tables_aids_methods_and_splits(self):
-        self.runs(FIRST, 18)
+    def test_tables_aids_methods_splits_and_factors(self):
+        self.runs(FIRST + FACTORS, 22)
 
-    def test_together(self):
-        self.runs(TOGETHER, 8)
+    def test_together_colours_two_spans_and_inner(self):
+        self.runs(TOGETHER + COLOURS, 18)
 
     def test_coarse(self):
         self.runs(COARSE, 8)
 
     def test_readme(self):
         text = (pathlib.Path(__file__).resolve().parent.parent / "README.md").read_text(encoding="utf-8")
-        self.runs(text.split("```")[1], 23)
+        self.runs(text.split("```")[1], 32)
 
 
 if __name__ == "__main__":

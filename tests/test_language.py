@@ -33,9 +33,13 @@ INTERFACE = {
     "aids": ["is_aid", "gap", "unsafe_row", "exact_aid", "smoother_aid", "step", "fall", "point_aids", "lot_aids"],
     "methods": ["error_table", "run", "turned", "there_and_back", "joined_table", "mean_table", "is_whole", "staying_error"],
     "splits": ["split_sum", "split_cost", "least_split", "least_cost", "best_price", "price_bound"],
+    "factors": ["has_factor", "beyond", "factor_near", "ends_at_once"],
     "together": ["is_team", "exact_team", "summed_table", "is_whole_team", "team_cost", "least_team_cost", "team_split",
                  "team_prices", "has_ratios_from", "has_ratios_up_to", "least_ratio_near", "greatest_ratio_near",
                  "damped_table", "dies_with", "unfalling", "falls_to"],
+    "colours": ["do_touch", "colours_of", "colouring"],
+    "twospans": ["product_up_to", "product_near", "product_pair", "common_rows"],
+    "inner": ["harmonic_rows", "outer_table", "extended", "ends_with"],
     "coarse": ["two_grids", "smoothed_table", "measure", "has_coarse_factor", "coarse_beyond", "coarse_factor_near",
                "least_count", "best_rows", "barring_rows", "best_factor_near"],
 }

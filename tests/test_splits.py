@@ -12,11 +12,7 @@ def cases():
 
 
 def whole_cases():
-    """Drawn methods, each with as many exact point aids behind it, in the place of its last ones, as make it whole."""
-    for draw, form, table, method in cases():
-        if not h.is_whole(h.all_rows(method), len(form)):
-            method = method[:3] + aids.point_aids(table)
-        yield draw, form, table, method
+    return h.whole_methods(5)
 
 
 def drawn_split(draw, method):

@@ -3,9 +3,9 @@ import inspect
 import unittest
 
 import helpers as h
-from splitcosts import aids, coarse, errors, methods, splits, tables, together
-from wrongs import AID, FIRST, GOOD, LINK, LOWER, METHOD, ROW, SECOND, SWAP, TEAM, UNSAFE, WRONG, functions, wrong_tables
-from wrongs import wrong_uneven
+from splitcosts import aids, coarse, errors, factors, inner, methods, splits, tables, together, twospans
+from wrongs import AID, FIRST, GOOD, LINK, LOWER, METHOD, ROW, SECOND, SWAP, TEAM, UNSAFE, WRONG, first_wrong, functions, good
+from wrongs import wrong_tables, wrong_uneven
 
 
 class Wrong(unittest.TestCase):
@@ -27,29 +27,29 @@ class Wrong(unittest.TestCase):
                 self.fail(f"{told.__name__} returned {found!r}")
 
     def test_the_parameters(self):
-        for told, names in functions():
+        for told, kinds in functions():
             found = inspect.signature(told).parameters
-            self.assertEqual(list(found), names)
+            self.assertEqual(list(found), list(kinds))
             self.assertEqual({part.kind for part in found.values()}, {inspect.Parameter.POSITIONAL_OR_KEYWORD})
 
     def test_each_wrong_value_of_each_argument(self):
-        for told, names in functions():
-            for name in names:
-                for at, wrong in enumerate(WRONG.get(name, ())):
+        for told, kinds in functions():
+            for name, kind in kinds.items():
+                for at, wrong in enumerate(WRONG.get(kind, ())):
                     with self.subTest(function=told.__name__, argument=name, at=at):
-                        self.raises(told, {part: GOOD[part] for part in names} | {name: wrong[0]}, wrong)
+                        self.raises(told, good(kinds) | {name: wrong[0]}, wrong)
 
     def test_the_order(self):
-        for told, names in functions():
-            for at, name in enumerate(names):
-                for wrong in WRONG.get(name, ())[::40]:
+        for told, kinds in functions():
+            for at, name in enumerate(kinds):
+                for wrong in WRONG.get(kinds[name], ())[::40]:
                     with self.subTest(function=told.__name__, argument=name):
-                        behind = {part: WRONG[part][0][0] for part in names[at + 1:] if part in WRONG}
-                        self.raises(told, {part: GOOD[part] for part in names} | {name: wrong[0]} | behind, wrong)
+                        behind = first_wrong({part: kinds[part] for part in list(kinds)[at + 1:]})
+                        self.raises(told, good(kinds) | {name: wrong[0]} | behind, wrong)
 
     def test_good_arguments_are_let(self):
-        for told, names in functions():
-            arguments = {name: GOOD[name] for name in names}
+        for told, kinds in functions():
+            arguments = good(kinds)
             kept = copy.deepcopy(arguments)
             found = told(*arguments.values())
             self.assertEqual(told(**arguments), found)
@@ -151,12 +151,105 @@ class NotWholeMethods(unittest.TestCase):
             self.assertRaises(errors.InvalidMethod, told, LINK, (AID, None), None)
 
     def test_others_do_not_ask_for_a_whole_method(self):
-        for told, names in functions():
-            if "method" in names and told not in self.FUNCTIONS:
-                arguments = {name: GOOD[name] for name in names} | {"method": (AID,)}
-                if "split" in names:
+        for told, kinds in functions():
+            if told.__module__ in ("splitcosts.methods", "splitcosts.splits") and told not in self.FUNCTIONS:
+                arguments = good(kinds) | {"method": (AID,)}
+                if "split" in kinds:
                     arguments["split"] = (((1, 1),),)
                 told(**arguments)
+
+
+class NotWholeFactors(unittest.TestCase):
+    METHODS = ((AID,), (AID,) * 8, (AID, (FIRST, (((9, 1),),))))
+    ASKS = ((factors.has_factor, "most"), (factors.beyond, "most"), (factors.factor_near, "many"), (factors.ends_at_once, None))
+
+    def test_it_is_raised(self):
+        for told, last in self.ASKS:
+            for method in self.METHODS:
+                arguments = {"table": LINK, "method": method} | ({last: GOOD[last]} if last else {})
+                for call in (lambda: told(*arguments.values()), lambda: told(**dict(reversed(list(arguments.items()))))):
+                    with self.assertRaises(errors.NotWhole) as caught:
+                        call()
+                    self.assertIs(type(caught.exception), errors.NotWhole)
+                    self.assertEqual(vars(caught.exception), {})
+
+    def test_it_is_last(self):
+        for told, last in self.ASKS:
+            self.assertRaises(errors.InvalidTable, told, SWAP, (AID,), *([None] if last else []))
+            self.assertRaises(errors.InvalidMethod, told, LINK, (AID, None), *([None] if last else []))
+            for value, error, _, _ in WRONG.get(last, ()):
+                self.assertRaises(error, told, LINK, (AID,), value)
+
+
+class NotWholeSpans(unittest.TestCase):
+    ASKS = ((twospans.product_up_to, "most"), (twospans.product_pair, "most"), (twospans.product_near, "many"))
+
+    def test_it_is_raised(self):
+        three, units = h.table(((2, -1, 0), (-1, 2, -1), (0, -1, 2))), h.table(h.units(3))
+        other = (((1, 1), (1, 1), (0, 1)),)
+        for told, last in self.ASKS:
+            for table, first, second in ((LINK, FIRST, FIRST), (LINK, FIRST, (((-3, 7), (0, 1)),)), (three, units[:1], units[1:2]),
+                                         (three, units[:2], other), (three, other, units[:2]), (three, units[:2], units[:2])):
+                for call in (lambda: told(table, first, second, GOOD[last]),
+                             lambda: told(**{last: GOOD[last]}, second=second, first=first, table=table)):
+                    with self.assertRaises(errors.NotWhole) as caught:
+                        call()
+                    self.assertIs(type(caught.exception), errors.NotWhole)
+                    self.assertEqual(vars(caught.exception), {})
+            told(three, units[:2], units[2:], GOOD[last])
+            told(three, units[:2], units, GOOD[last])
+
+    def test_it_is_last(self):
+        for told, last in self.ASKS:
+            self.assertRaises(errors.InvalidTable, told, SWAP, FIRST, FIRST, None)
+            for first, second, at in ((FIRST + FIRST, FIRST, 1), (FIRST, FIRST + (None,), 1), (FIRST, (), None)):
+                with self.assertRaises(errors.InvalidRows) as caught:
+                    told(LINK, first, second, None)
+                self.assertEqual(caught.exception.index, at)
+            for value, error, _, _ in WRONG[last]:
+                self.assertRaises(error, told, LINK, FIRST, FIRST, value)
+
+    def test_common_rows_do_not_ask_for_it(self):
+        self.assertEqual(len(twospans.common_rows(LINK, FIRST, FIRST)), 1)
+        self.assertEqual(len(twospans.common_rows(LINK, FIRST, (((-3, 7), (0, 1)),))), 1)
+
+
+class InnerIndexes(unittest.TestCase):
+    def test_a_table_of_one_row_has_none(self):
+        for inner_indexes in ((), (0,), (1,), (0, 0), (True,), None):
+            for told, more in ((inner.harmonic_rows, ()), (inner.outer_table, ()), (inner.extended, (None,)),
+                               (inner.ends_with, (None,))):
+                with self.assertRaises(errors.InvalidLot) as caught:
+                    told((((2, 1),),), inner_indexes, *more)
+                self.assertIs(caught.exception.given, inner_indexes)
+
+    def test_by_the_size_of_the_table(self):
+        for many in range(2, 6):
+            units = h.table(h.units(many))
+            everything = tuple(range(many))
+            for lot in ((many,), everything, everything[::-1], everything + (many,), (0, many), (1, 0), (-1,), (0, False)):
+                with self.assertRaises(errors.InvalidLot) as caught:
+                    inner.harmonic_rows(units, lot)
+                self.assertIs(caught.exception.given, lot)
+            for lot in (everything[1:], everything[:-1], (many - 1,), (0,)):
+                self.assertEqual(len(inner.harmonic_rows(units, lot)), many - len(lot))
+
+    def test_numbers_are_as_many_as_outer_indexes(self):
+        for many in range(2, 6):
+            units = h.table(h.units(many))
+            for count in range(1, many):
+                lot = tuple(range(count))
+                for size in range(7):
+                    numbers = ((3, 1),) * size
+                    if size == many - count:
+                        self.assertEqual(inner.extended(units, lot, numbers), ((0, 1),) * count + numbers)
+                        continue
+                    with self.assertRaises(errors.InvalidRow) as caught:
+                        inner.extended(units, lot, numbers)
+                    self.assertIsNone(caught.exception.index)
+                with self.assertRaises(errors.InvalidRow) as caught:
+                    inner.extended(units, lot, ((3, 1),) * (many - count - 1) + ((2, 4),))
+                self.assertEqual(caught.exception.index, many - count - 1)
 
 
 class NotSafe(unittest.TestCase):
@@ -306,10 +399,11 @@ class IsTeam(unittest.TestCase):
 class Edges(unittest.TestCase):
     def test_tables_of_six_rows(self):
         six = h.table(h.units(6))
-        for told, names in functions():
+        for told, kinds in functions():
+            names = list(kinds)
             if names[0] != "value":
                 with self.assertRaises(errors.InvalidForm if names[0] == "form" else errors.InvalidTable) as caught:
-                    told(six, *[GOOD[name] for name in names[1:]])
+                    told(six, *list(good(kinds).values())[1:])
                 self.assertIs(caught.exception.given, six)
 
     def test_rounds(self):

@@ -1,7 +1,7 @@
 """Values that are wrong for an argument, of each kind that the interface names, and what their errors keep."""
 
 import helpers as h
-from splitcosts import aids, coarse, errors, methods, splits, tables, together
+from splitcosts import aids, coarse, colours, errors, factors, inner, methods, splits, tables, together, twospans
 
 LINK = h.table(((2, -1), (-1, 2)))
 FIRST, SECOND = (((1, 1), (0, 1)),), (((0, 1), (1, 1)),)
@@ -244,6 +244,21 @@ def wrong_lots():
     yield (0, 1), 0
 
 
+def wrong_inner():
+    """What is no lot of inner indexes for a table of two rows: its indexes are 0 or 1 alone."""
+    yield from NO_TUPLES
+    yield from ((), (2,), (-1,), (-2,), (0, 1), (0, 2), (1, 0), (0, 0), (1, 1), (True,), (False,), ("0",), (None,), ((0,),), [0],
+                (10 ** 399,), (Odd(),), ([0],), (0, 1, 2), ((1, 1),))
+
+
+def wrong_numbers():
+    """What is no row for one outer index."""
+    for value in NO_TUPLES + ((), ROW, [(1, 1)], ROW + ROW):
+        yield value, None
+    for wrong in NO_FRACTIONS:
+        yield (wrong,), 0
+
+
 def given(error, values):
     return [(value, error, "given", value) for value in values]
 
@@ -278,11 +293,16 @@ WRONG = {
     "coarse": index(errors.InvalidRows, wrong_rows(True)),
     "kept": index(errors.InvalidRows, wrong_rows(True)),
     "count": given(errors.InvalidNumber, NO_COUNTS + (0,)),
+    "first": index(errors.InvalidRows, wrong_rows(False)),
+    "second": index(errors.InvalidRows, wrong_rows(False)),
+    "inner": given(errors.InvalidLot, wrong_inner()),
+    "numbers": index(errors.InvalidRow, wrong_numbers()),
 }
 GOOD = {"table": LINK, "team": TEAM, "spans": (FIRST, SECOND), "parts": (((1, 1),), ((2, 1),)), "row": ROW, "number": (1, 2),
         "damping": (1, 3), "root": (1, 2), "most": (1, 9), "many": 7, "smoother": LOWER, "coarse": FIRST, "kept": FIRST,
         "count": 2, "value": TEAM, "other": ROW, "price": ROW, "form": SWAP, "rows": FIRST + SECOND, "solver": LOWER, "aid": AID,
-        "method": METHOD, "split": (((1, 1),), ((2, 1), (-1, 3))), "lots": ((0, 1), (1,)), "rounds": 3}
+        "method": METHOD, "split": (((1, 1),), ((2, 1), (-1, 3))), "lots": ((0, 1), (1,)), "rounds": 3, "first": FIRST,
+        "second": SECOND, "inner": (1,), "numbers": ((-1, 2),)}
 TABLES = {
     "is_table": "value", "worth": "form row", "signs": "form", "squares": "form", "low_row": "form",
     "energy_product": "table row other",
@@ -301,6 +321,10 @@ SPLITS = {
     "split_sum": "table method split", "split_cost": "table method split", "least_split": "table method row",
     "least_cost": "table method row", "best_price": "table method row", "price_bound": "table method price row",
 }
+FACTORS = {
+    "has_factor": "table method most", "beyond": "table method most", "factor_near": "table method many",
+    "ends_at_once": "table method",
+}
 TOGETHER = {
     "is_team": "table value", "exact_team": "table spans", "summed_table": "table team", "is_whole_team": "table team",
     "team_cost": "table team parts", "least_team_cost": "table team row", "team_split": "table team row",
@@ -315,10 +339,31 @@ COARSE = {
     "best_rows": "table smoother kept count most", "barring_rows": "table smoother kept count most",
     "best_factor_near": "table smoother kept count many",
 }
+COLOURS = {"do_touch": "table first second", "colours_of": "table team", "colouring": "table team"}
+TWOSPANS = {
+    "product_up_to": "table first second most", "product_near": "table first second many",
+    "product_pair": "table first second most", "common_rows": "table first second",
+}
+INNER = {
+    "harmonic_rows": "table inner", "outer_table": "table inner", "extended": "table inner numbers",
+    "ends_with": "table inner coarse",
+}
 
 
 def functions():
-    listed = ((tables, TABLES), (aids, AIDS), (methods, METHODS), (splits, SPLITS), (together, TOGETHER), (coarse, COARSE))
+    """Each function and its parameters: by their names what kind of value they take, which is mostly told by the name."""
+    listed = ((tables, TABLES), (aids, AIDS), (methods, METHODS), (splits, SPLITS), (factors, FACTORS), (together, TOGETHER),
+              (colours, COLOURS), (twospans, TWOSPANS), (inner, INNER), (coarse, COARSE))
     for module, told in listed:
         for name, words in told.items():
-            yield getattr(module, name), words.split()
+            parts = [word.partition(":") for word in words.split()]
+            yield getattr(module, name), {part: kind or part for part, _, kind in parts}
+
+
+def good(kinds):
+    return {name: GOOD[kind] for name, kind in kinds.items()}
+
+
+def first_wrong(kinds):
+    """By its name the first wrong value for each parameter that has wrong ones."""
+    return {name: WRONG[kind][0][0] for name, kind in kinds.items() if kind in WRONG}
