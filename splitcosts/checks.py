@@ -1,11 +1,12 @@
 """What arguments have to be, and the errors for those that are not."""
 
-from splitcosts.errors import InvalidAid, InvalidAmount, InvalidForm, InvalidLot, InvalidLots, InvalidMethod
-from splitcosts.errors import InvalidNumber, InvalidParts, InvalidRow, InvalidRows, InvalidShare, InvalidSmoother
-from splitcosts.errors import InvalidSolver, InvalidSpans, InvalidSplit, InvalidTable, InvalidTeam, NotWhole
-from splitcosts.kinds import fitting_count, free_count, is_above_nought, is_aid_for, is_amount, is_form, is_fraction
-from splitcosts.kinds import is_inner, is_lot, is_number_from, is_positive_table, is_share, is_span, is_table_of
-from splitcosts.kinds import is_team_aid, is_tuple, right_count, smooths
+from splitcosts.errors import InvalidAid, InvalidAmount, InvalidForm, InvalidLadder, InvalidLot, InvalidLots
+from splitcosts.errors import InvalidMethod, InvalidNumber, InvalidParts, InvalidRow, InvalidRows, InvalidShare
+from splitcosts.errors import InvalidSmoother, InvalidSolver, InvalidSpans, InvalidSplit, InvalidTable, InvalidTeam
+from splitcosts.errors import InvalidWeight, NotWhole
+from splitcosts.kinds import climbing_count, fitting_count, free_count, is_above_nought, is_aid_for, is_amount, is_form
+from splitcosts.kinds import is_fraction, is_inner, is_ladder_long, is_lot, is_number_from, is_positive_table, is_share
+from splitcosts.kinds import is_span, is_table_of, is_team_aid, is_tuple, right_count, smooths
 from splitcosts.spans import are_all
 
 MOST_MANY = 1000000
@@ -165,6 +166,20 @@ def check_split(value, method):
     at = fitting_count(value, method)
     if at < len(value):
         raise InvalidSplit(at)
+
+
+def check_weight(value):
+    if not is_above_nought(value):
+        raise InvalidWeight(value)
+
+
+def check_table_and_ladder(table, ladder):
+    check_table(table)
+    if not is_ladder_long(ladder):
+        raise InvalidLadder(None)
+    at = climbing_count(table, ladder)
+    if at < len(ladder):
+        raise InvalidLadder(at)
 
 
 def check_whole(rows):

@@ -2,13 +2,12 @@
 
 from splitcosts.checks import check_table_and_spans, check_table_and_team
 from splitcosts.rows import multiplied, turned_over
-from splitcosts.spans import is_noughts
+from splitcosts.spans import are_noughts
 
 
 def touches(table, first, second):
     """Tell whether some row of FIRST has an energy product other than 0 with one of SECOND."""
-    products = multiplied(multiplied(first, table), turned_over(second))
-    return not all([is_noughts(row) for row in products])
+    return not are_noughts(multiplied(multiplied(first, table), turned_over(second)))
 
 
 def touched_ahead(table, team):

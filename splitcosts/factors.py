@@ -2,10 +2,10 @@
 
 from splitcosts.checks import check_many, check_share, check_table_and_method, check_whole
 from splitcosts.forms import is_from_nought, rows_below
-from splitcosts.fracs import ONE, minus
+from splitcosts.fracs import ONE, minus, over
 from splitcosts.nearness import near_root
-from splitcosts.rows import applied, multiplied, table_less, unit_rows
-from splitcosts.spans import inverse, is_noughts
+from splitcosts.rows import applied, multiplied, table_less, table_times, unit_rows
+from splitcosts.spans import are_noughts, inverse
 from splitcosts.sweeps import errors_by, mean_of, rows_of
 
 
@@ -18,6 +18,11 @@ def check_method_and_share(table, method, most):
 def spare_fall(table, method, most):
     """Return B - (1 - MOST) A^-1: at A e by how much more the energy of e falls than it has to for the share MOST."""
     return table_less(mean_of(table, method), minus(ONE, most), inverse(table))
+
+
+def spare_cost(table, method, most):
+    """Return A / (1 - MOST) - B^-1: at v by how much less its least split costs than it may for the share MOST."""
+    return table_less(table_times(over(ONE, minus(ONE, most)), table), ONE, inverse(mean_of(table, method)))
 
 
 def has_factor(table, method, most):
@@ -48,4 +53,4 @@ def ends_at_once(table, method):
     """Tell whether the factor is 0."""
     check_table_and_method(table, method)
     check_whole(rows_of(method))
-    return all([is_noughts(row) for row in errors_by(table, method)])
+    return are_noughts(errors_by(table, method))

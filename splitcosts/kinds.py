@@ -8,10 +8,15 @@ from splitcosts.spans import with_row
 
 MOST_ROWS = 5
 MOST_AIDS = 8
+MOST_PAIRS = 2
 
 
 def is_tuple(value):
     return type(value) == tuple
+
+
+def is_text(value):
+    return type(value) == str
 
 
 def is_whole_number(value):
@@ -127,6 +132,10 @@ def are_right(value, is_right):
     return is_tuple(value) and len(value) > 0 and right_count(value, is_right) == len(value)
 
 
+def is_method_for(table, value):
+    return are_right(value, lambda aid: is_aid_for(table, aid))
+
+
 def is_team_of(value, many):
     """Tell whether VALUE is a team for tables of MANY rows."""
     return are_right(value, lambda aid: is_team_aid(aid, many))
@@ -152,3 +161,33 @@ def fitting_count(parts, aids):
         if not is_row(part, len(aid[0])):
             return at
     return len(parts)
+
+
+def are_fitting(value, aids):
+    """Tell whether VALUE is a tuple of a row for each of the AIDS, a number for each of its rows."""
+    return is_tuple(value) and len(value) == len(aids) and fitting_count(value, aids) == len(value)
+
+
+def is_ladder_pair(table, value):
+    """Tell whether VALUE is a pair of a smoother for the TABLE and one or more free rows."""
+    if not is_pair(value):
+        return False
+    smoother, rows = value
+    return smooths(table, smoother) and is_span(rows, len(table))
+
+
+def climbing_count(table, pairs):
+    """Return how many of PAIRS stand ahead of the first that is none for the table which those ahead make of TABLE."""
+    for at, pair in enumerate(pairs):
+        if not is_ladder_pair(table, pair):
+            return at
+        table = form_on(table, pair[1])
+    return len(pairs)
+
+
+def is_ladder_long(value):
+    return is_tuple(value) and 1 <= len(value) <= MOST_PAIRS
+
+
+def is_ladder_for(table, value):
+    return is_ladder_long(value) and climbing_count(table, value) == len(value)

@@ -13,6 +13,10 @@ def is_noughts(row):
     return all([number[0] == 0 for number in row])
 
 
+def are_noughts(rows):
+    return all([is_noughts(row) for row in rows])
+
+
 def lead_one(row):
     return row_times(over(ONE, row[first_place(row)]), row)
 

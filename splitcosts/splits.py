@@ -1,11 +1,9 @@
 """Splits of rows among the spans of a method's aids, their least cost, and prices that no split goes below."""
 
 from splitcosts.checks import check_row, check_split, check_table_and_method, check_whole
-from splitcosts.forms import worth_at
-from splitcosts.fracs import minus, times
 from splitcosts.rows import applied, dot
 from splitcosts.spans import inverse
-from splitcosts.sweeps import added_up, cost_of, mean_of, rows_of, split_by
+from splitcosts.sweeps import added_up, bound_by, cost_of, mean_of, rows_of, split_by
 
 
 def split_sum(table, method, split):
@@ -45,4 +43,4 @@ def price_bound(table, method, price, row):
     check_table_and_method(table, method)
     check_row(price, len(table))
     check_row(row, len(table))
-    return minus(times((2, 1), dot(price, row)), worth_at(mean_of(table, method), price))
+    return bound_by(table, method, price, row)

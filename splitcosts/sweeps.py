@@ -1,9 +1,9 @@
 """Aids that are taken one behind another: what they take off errors, and what splits of rows cost by them."""
 
 from splitcosts.forms import worth_at
-from splitcosts.fracs import NIL, ONE, total
-from splitcosts.rows import applied, form_on, gap_of, mixed, multiplied, row_less, row_plus, table_less, table_plus
-from splitcosts.rows import turned_over, unit_row, unit_rows
+from splitcosts.fracs import NIL, ONE, minus, times, total
+from splitcosts.rows import applied, dot, form_on, gap_of, mixed, multiplied, row_less, row_plus, table_less
+from splitcosts.rows import table_plus, turned_over, unit_row, unit_rows
 from splitcosts.spans import inverse
 
 
@@ -100,3 +100,8 @@ def split_by(table, method, price):
         later = row_plus(later, mixed(part, rows))
         found.append(part)
     return tuple(found[::-1])
+
+
+def bound_by(table, method, price, row):
+    """Return 2 y . v less the worth of B at the price y: what splits of the row v cost at least."""
+    return minus(times((2, 1), dot(price, row)), worth_at(mean_of(table, method), price))

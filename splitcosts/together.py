@@ -23,9 +23,24 @@ def sum_of(team):
     return summed
 
 
+def ratio_form(table, team, number):
+    """Return S - NUMBER * A^-1: its worth at A e is below 0 where the ratio of e is below NUMBER, above 0 likewise."""
+    return table_less(sum_of(team), number, inverse(table))
+
+
 def ratio_signs(table, team, number):
-    """Return the signs of S - NUMBER * A^-1: below for ratios below NUMBER, above for those above it."""
-    return signs_of(table_less(sum_of(team), number, inverse(table)))
+    return signs_of(ratio_form(table, team, number))
+
+
+def damped_by(table, team, damping):
+    """Return the table 1 - w S A by which errors go with the DAMPING w."""
+    return table_less(unit_rows(len(table)), damping, multiplied(sum_of(team), table))
+
+
+def does_die(table, team, damping):
+    """Tell whether TEAM is whole and all its ratios are below 2 over the DAMPING."""
+    all_below = ratio_signs(table, team, over(TWO, damping))[2] == len(table)
+    return all_below and is_positive(sum_of(team))
 
 
 def is_team(table, value):
@@ -113,15 +128,14 @@ def damped_table(table, team, damping):
     """Return the table 1 - w S A by which errors go with the DAMPING w."""
     check_table_and_team(table, team)
     check_damping(damping)
-    return table_less(unit_rows(len(table)), damping, multiplied(sum_of(team), table))
+    return damped_by(table, team, damping)
 
 
 def dies_with(table, team, damping):
     """Tell whether with the DAMPING the energy of all errors other than noughts falls at each step."""
     check_table_and_team(table, team)
     check_damping(damping)
-    all_below = ratio_signs(table, team, over(TWO, damping))[2] == len(table)
-    return all_below and is_positive(sum_of(team))
+    return does_die(table, team, damping)
 
 
 def unfalling(table, team, damping):

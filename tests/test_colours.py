@@ -135,6 +135,18 @@ class Colours(unittest.TestCase):
         self.assertEqual(c.colours_of(CHAIN, team), 2)
         self.assertIn(c.colouring(CHAIN, team), ((0, 1, 1, 0), (1, 0, 0, 1)))
 
+    def test_three_colours_where_four_come_first(self):
+        """An aid of all rows, which touches all others, and three pairs: those of a pair, the first ones and the second
+        ones do not touch."""
+        table = h.table(h.units(5))
+        seconds = h.table(((0, 1, 1, 1, 0), (1, 0, 1, -1, 1), (1, 1, 0, -1, -2)))
+        pairs = [(row,) for both in zip(table, seconds) for row in both]
+        for spans in ([table] + pairs, pairs + [table]):
+            team = together.exact_team(table, tuple(spans))
+            self.assertEqual(c.colours_of(table, team), 3)
+            self.assertEqual(sorted(set(c.colouring(table, team))), [0, 1, 2])
+            self.assertTrue(tells_apart(h.units(5), team, c.colouring(table, team)))
+
     def test_a_ring_of_five(self):
         units = h.table(h.units(5))
         team = together.exact_team(RING, tuple((row,) for row in units))

@@ -92,6 +92,39 @@ COARSE = '''
 [(0, True), 1, None, 1]
 '''
 
+SMOOTHERS = '''
+>>> from splitcosts.checker import accepts
+>>> from splitcosts.smoothers import is_never_worse, is_smoother, lower_smoother, parting_rows, slant_smoother
+>>> upper = ((two, one), (nil, two))
+>>> [lower_smoother(firm) == lower, is_smoother(firm, upper), is_smoother(firm, ((one, nil), (nil, one))), slant_smoother(firm, half)]
+[True, True, False, (((4, 1), (0, 1)), ((0, 1), (4, 1)))]
+>>> even = slant_smoother(firm, one)
+>>> [is_never_worse(firm, lower, even), is_never_worse(firm, even, lower), is_never_worse(firm, lower, upper), parting_rows(firm, lower, even)]
+[True, False, False, None]
+>>> found = parting_rows(firm, lower, upper)
+>>> [len(found), accepts(("worse", firm, lower, upper), found), coarse_factor_near(firm, upper, first, 16)]
+[1, True, (1, True)]
+>>> slant_smoother(firm, two)
+raises NotSafe()
+'''
+
+LEVELS = '''
+>>> from splitcosts.factors import factor_near
+>>> from splitcosts.levels import exact_round, is_ladder, level_tables, v_round, w_round
+>>> steps = ((lower, first),)
+>>> [is_ladder(firm, steps), is_ladder(firm, ()), level_tables(firm, steps), exact_round(firm, steps) == v_round(firm, steps), w_round(firm, steps) == v_round(firm, steps)]
+[True, False, ((((2, 1), (1, 1)), ((1, 1), (2, 1))), (((2, 1),),)), True, True]
+>>> [len(v_round(firm, steps)), v_round(firm, steps)[1], v_round(firm, steps)[2][1] == upper, factor_near(firm, v_round(firm, steps), 256), len(w_round(firm, ((lower, (first[0], (nil, one))), (lower, first))))]
+[3, ((((1, 1), (0, 1)),), (((2, 1),),)), True, (1, True), 8]
+'''
+
+CERTIFICATES = '''
+>>> from splitcosts.certificates import certify_cost, certify_damping, certify_factor
+>>> from splitcosts.checker import accepts
+>>> [certify_factor(pair, sweep, (1, 5))[0][0], certify_cost(pair, sweep, (one, two))[0][4], certify_damping(link, team, one)[1], accepts(("stays", pair, sweep[:1]), (one, (-2, 1))), accepts(("does not die", link, team, (4, 3)), (one, less))]
+['factor above', (16, 1), (), True, True]
+'''
+
 
 class Examples(unittest.TestCase):
     def runs(self, text, many):
@@ -108,12 +141,15 @@ class Examples(unittest.TestCase):
     def test_together_colours_two_spans_and_inner(self):
         self.runs(TOGETHER + COLOURS, 18)
 
-    def test_coarse(self):
-        self.runs(COARSE, 8)
+    def test_coarse_smoothers_and_levels(self):
+        self.runs(COARSE + SMOOTHERS + LEVELS, 22)
+
+    def test_all_of_them_one_heading_behind_the_other(self):
+        self.runs(FIRST + FACTORS + TOGETHER + COLOURS + COARSE + SMOOTHERS + LEVELS + CERTIFICATES, 65)
 
     def test_readme(self):
         text = (pathlib.Path(__file__).resolve().parent.parent / "README.md").read_text(encoding="utf-8")
-        self.runs(text.split("```")[1], 32)
+        self.runs(text.split("```")[1], 40)
 
 
 if __name__ == "__main__":

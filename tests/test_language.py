@@ -42,6 +42,12 @@ INTERFACE = {
     "inner": ["harmonic_rows", "outer_table", "extended", "ends_with"],
     "coarse": ["two_grids", "smoothed_table", "measure", "has_coarse_factor", "coarse_beyond", "coarse_factor_near",
                "least_count", "best_rows", "barring_rows", "best_factor_near"],
+    "smoothers": ["is_smoother", "lower_smoother", "slant_smoother", "is_never_worse", "parting_rows"],
+    "levels": ["is_ladder", "level_tables", "exact_round", "v_round", "w_round"],
+    "checker": ["accepts"],
+    "certificates": ["certify_positive", "certify_aid", "certify_whole", "certify_cost", "certify_factor",
+                     "certify_ratios_from", "certify_ratios_up_to", "certify_damping", "certify_product", "certify_end",
+                     "certify_coarse", "certify_best", "certify_smoothers"],
 }
 
 
@@ -68,6 +74,15 @@ def bound_in(function):
              for part in node.posonlyargs + node.args + node.kwonlyargs]
     names += [node.id for node in ast.walk(function) if isinstance(node, ast.Name) and isinstance(node.ctx, ast.Store)]
     return names + [node.name for node in ast.walk(function) if isinstance(node, ast.FunctionDef) and node is not function]
+
+
+def is_table_of_functions(node, path):
+    """Whether it tells for texts functions that the file itself defines."""
+    if not isinstance(node, ast.Dict):
+        return False
+    defined = {part.name for part in tree_of(path).body if isinstance(part, ast.FunctionDef) and part.lineno < node.lineno}
+    texts = all(isinstance(key, ast.Constant) and isinstance(key.value, str) for key in node.keys)
+    return texts and all(isinstance(value, ast.Name) and value.id in defined for value in node.values)
 
 
 def is_plain(node):
@@ -162,7 +177,8 @@ class Modules(unittest.TestCase):
             names = list(imports(path))
             for at, node in enumerate(tree_of(path).body):
                 if isinstance(node, ast.Assign):
-                    self.assertTrue(len(node.targets) == 1 and isinstance(node.targets[0], ast.Name) and is_plain(node.value))
+                    self.assertTrue(len(node.targets) == 1 and isinstance(node.targets[0], ast.Name))
+                    self.assertTrue(is_plain(node.value) or is_table_of_functions(node.value, path))
                     names.append(node.targets[0].id)
                 elif isinstance(node, (ast.FunctionDef, ast.ClassDef)):
                     names.append(node.name)
@@ -260,7 +276,7 @@ class Statements(unittest.TestCase):
         for path in FILES:
             for line in text_of(path).split("\n"):
                 if re.search(r"\btype\b", line):
-                    self.assertRegex(line, r"\A    return type\(value\) == (tuple|int)\Z")
+                    self.assertRegex(line, r"\A    return type\(value\) == (tuple|int|str)\Z")
 
 
 class Names(unittest.TestCase):
@@ -305,7 +321,7 @@ class Names(unittest.TestCase):
             called = {node.func.id for node in walk(path, ast.Call) if isinstance(node.func, ast.Name)}
             read = {node.id for node in walk(path, ast.Name) if isinstance(node.ctx, ast.Load)}
             self.assertLessEqual(read & set(dir(builtins)), BUILTINS, path)
-            self.assertLessEqual(read & BUILTINS - {"tuple", "int", "ValueError"}, called, path)
+            self.assertLessEqual(read & BUILTINS - {"tuple", "int", "str", "ValueError"}, called, path)
 
     def test_builtins_have_few_keywords(self):
         for path in FILES:

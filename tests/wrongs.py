@@ -1,7 +1,8 @@
 """Values that are wrong for an argument, of each kind that the interface names, and what their errors keep."""
 
 import helpers as h
-from splitcosts import aids, coarse, colours, errors, factors, inner, methods, splits, tables, together, twospans
+from splitcosts import aids, certificates, coarse, colours, errors, factors, inner, levels, methods, smoothers, splits, tables
+from splitcosts import together, twospans
 
 LINK = h.table(((2, -1), (-1, 2)))
 FIRST, SECOND = (((1, 1), (0, 1)),), (((0, 1), (1, 1)),)
@@ -195,7 +196,7 @@ def wrong_aids():
     rows, solver = AID
     yield from NO_TUPLES
     yield from ((), (rows,), (rows, solver, solver), [rows, solver], (solver, rows), (rows, None), (rows, (2, 1)))
-    yield from ((rows, list(solver)), (list(rows), solver), (AID,), (AID, AID), METHOD)
+    yield from ((rows, list(solver)), (list(rows), solver), (AID,), (AID, AID), METHOD, ((), ()), ((), solver), (rows, ()))
     for value, _ in wrong_rows(False):
         yield (value, solver)
         yield (value, LINK)
@@ -259,6 +260,34 @@ def wrong_numbers():
         yield (wrong,), 0
 
 
+def wrong_pairs():
+    """What is no pair of a ladder for LINK."""
+    yield from NO_TUPLES
+    yield from ((), (LOWER,), (LOWER, FIRST, FIRST), [LOWER, FIRST], (FIRST, LOWER), (LOWER, None), (LOWER, LINK[0]), LOWER)
+    for value in wrong_smoothers():
+        yield (value, FIRST)
+    for value, _ in wrong_rows(False):
+        yield (LOWER, value)
+
+
+def wrong_ladders():
+    for value in NO_TUPLES:
+        yield value, None
+    pair = (LOWER, FIRST + SECOND)
+    for value in ((), (pair,) * 3, (None,) * 3, [pair], pair + pair):
+        yield value, None
+    for wrong in wrong_pairs():
+        yield (wrong,), 0
+        yield (pair, wrong), 1
+        yield (wrong, wrong), 0
+    yield pair, 0
+    # Right for the table, wrong for the one that is made of the first rows: one of one row, four times LINK.
+    yield ((LOWER, FIRST), pair), 1
+    yield ((LOWER, FIRST), (LOWER, FIRST)), 1
+    yield ((LOWER, h.table(((2, 0), (0, 2)))), pair), 1
+    yield ((LOWER, FIRST), ((((1, 1),),), (((1, 1),),))), 1
+
+
 def given(error, values):
     return [(value, error, "given", value) for value in values]
 
@@ -296,13 +325,17 @@ WRONG = {
     "first": index(errors.InvalidRows, wrong_rows(False)),
     "second": index(errors.InvalidRows, wrong_rows(False)),
     "inner": given(errors.InvalidLot, wrong_inner()),
+    "weight": given(errors.InvalidWeight, NO_FRACTIONS + ((-1, 1), (-1, 10 ** 9), (0, 1))),
+    "other_smoother": given(errors.InvalidSmoother, wrong_smoothers()),
+    "ladder": index(errors.InvalidLadder, wrong_ladders()),
     "numbers": index(errors.InvalidRow, wrong_numbers()),
 }
 GOOD = {"table": LINK, "team": TEAM, "spans": (FIRST, SECOND), "parts": (((1, 1),), ((2, 1),)), "row": ROW, "number": (1, 2),
         "damping": (1, 3), "root": (1, 2), "most": (1, 9), "many": 7, "smoother": LOWER, "coarse": FIRST, "kept": FIRST,
         "count": 2, "value": TEAM, "other": ROW, "price": ROW, "form": SWAP, "rows": FIRST + SECOND, "solver": LOWER, "aid": AID,
         "method": METHOD, "split": (((1, 1),), ((2, 1), (-1, 3))), "lots": ((0, 1), (1,)), "rounds": 3, "first": FIRST,
-        "second": SECOND, "inner": (1,), "numbers": ((-1, 2),)}
+        "second": SECOND, "inner": (1,), "numbers": ((-1, 2),), "weight": (3, 4), "other_smoother": h.table(((3, 1), (0, 2))),
+        "ladder": ((LOWER, FIRST + SECOND), (LOWER, FIRST))}
 TABLES = {
     "is_table": "value", "worth": "form row", "signs": "form", "squares": "form", "low_row": "form",
     "energy_product": "table row other",
@@ -348,12 +381,29 @@ INNER = {
     "harmonic_rows": "table inner", "outer_table": "table inner", "extended": "table inner numbers",
     "ends_with": "table inner coarse",
 }
+SMOOTHERS = {
+    "is_smoother": "table value", "lower_smoother": "table", "slant_smoother": "table weight",
+    "is_never_worse": "table smoother other:other_smoother", "parting_rows": "table smoother other:other_smoother",
+}
+LEVELS = {
+    "is_ladder": "table value", "level_tables": "table ladder", "exact_round": "table ladder", "v_round": "table ladder",
+    "w_round": "table ladder",
+}
+CERTIFICATES = {
+    "certify_positive": "form", "certify_aid": "table rows solver", "certify_whole": "table method",
+    "certify_cost": "table method row", "certify_factor": "table method most", "certify_ratios_from": "table team number",
+    "certify_ratios_up_to": "table team number", "certify_damping": "table team damping",
+    "certify_product": "table first second most", "certify_end": "table inner coarse",
+    "certify_coarse": "table smoother coarse most", "certify_best": "table smoother kept count most",
+    "certify_smoothers": "table smoother other:other_smoother",
+}
 
 
 def functions():
     """Each function and its parameters: by their names what kind of value they take, which is mostly told by the name."""
     listed = ((tables, TABLES), (aids, AIDS), (methods, METHODS), (splits, SPLITS), (factors, FACTORS), (together, TOGETHER),
-              (colours, COLOURS), (twospans, TWOSPANS), (inner, INNER), (coarse, COARSE))
+              (colours, COLOURS), (twospans, TWOSPANS), (inner, INNER), (coarse, COARSE), (smoothers, SMOOTHERS),
+              (levels, LEVELS), (certificates, CERTIFICATES))
     for module, told in listed:
         for name, words in told.items():
             parts = [word.partition(":") for word in words.split()]
