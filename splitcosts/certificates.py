@@ -6,11 +6,11 @@ from splitcosts.factors import beyond, spare_cost
 from splitcosts.forms import rows_below, squares_of
 from splitcosts.inner import ends_with, harmonics
 from splitcosts.methods import is_whole, staying_error
-from splitcosts.rows import applied, dot, table_times, unit_rows
+from splitcosts.rows import applied, dot, table_times
 from splitcosts.smoothers import parting_rows
 from splitcosts.spans import are_in_span, inverse
-from splitcosts.splits import best_price, least_split
-from splitcosts.sweeps import split_by
+from splitcosts.splits import best_price
+from splitcosts.sweeps import split_by, unit_splits
 from splitcosts.tables import low_row, squares
 from splitcosts.together import has_ratios_from, has_ratios_up_to, ratio_form, unfalling
 from splitcosts.twospans import product_pair
@@ -36,7 +36,7 @@ def certify_whole(table, method):
     """Certify that METHOD is whole, or that it is not."""
     if not is_whole(table, method):
         return (("stays", table, method), staying_error(table, method))
-    return (("whole", table, method), tuple([least_split(table, method, row) for row in unit_rows(len(table))]))
+    return (("whole", table, method), unit_splits(method))
 
 
 def certify_cost(table, method, row):

@@ -2,9 +2,9 @@
 
 from splitcosts.checks import check_coarse, check_many, check_number_from, check_share, check_table_and_smoother
 from splitcosts.forms import is_from_nought, rows_below, signs_of, squares_of
-from splitcosts.fracs import NIL, ONE, minus
+from splitcosts.fracs import ONE, minus
 from splitcosts.nearness import near_root
-from splitcosts.rows import form_on, gap_of, mixed, multiplied, table_less, turned_over
+from splitcosts.rows import form_on, gap_of, mixed, multiplied, spread, table_less, turned_over
 from splitcosts.spans import inverse, loose_places, noughts_basis
 from splitcosts.sweeps import exact_aid_of, smoothing_aid
 
@@ -40,14 +40,6 @@ def factor_near(table, smoother, kept, spare, many):
     energies = inverse(table)
     left = form_on(table_less(energies, ONE, smoothed_inverse(table, smoother)), basis)
     return near_root(multiplied(left, inverse(form_on(energies, basis))), len(basis) - 1 - spare, many)
-
-
-def spread(row, places, many):
-    """Return the row of MANY numbers that has those of ROW at the PLACES, 0 elsewhere."""
-    numbers = [NIL] * many
-    for place, number in zip(places, row):
-        numbers[place] = number
-    return tuple(numbers)
 
 
 def two_grids(table, smoother, coarse):

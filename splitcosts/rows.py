@@ -33,6 +33,14 @@ def unit_rows(many):
     return tuple([unit_row(many, place) for place in range(many)])
 
 
+def spread(row, places, many):
+    """Return the row of MANY numbers that has those of ROW at the PLACES, 0 elsewhere."""
+    numbers = [NIL] * many
+    for place, number in zip(places, row):
+        numbers[place] = number
+    return tuple(numbers)
+
+
 def applied(table, row):
     """Return the row of the products of each row of TABLE with ROW."""
     return tuple([dot(line, row) for line in table])

@@ -46,6 +46,17 @@ def steps_of(rows):
     return steps
 
 
+def free_places(rows):
+    """Return the places of those ROWS that are no sum of multiples of the ones ahead of them."""
+    steps, found = (), []
+    for at, row in enumerate(rows):
+        longer = with_row(steps, row)
+        if len(longer) > len(steps):
+            found.append(at)
+        steps = longer
+    return found
+
+
 def are_all(rows):
     """Tell whether each row is a sum of multiples of ROWS; there is one of these."""
     return len(steps_of(rows)) == len(rows[0])

@@ -3,8 +3,8 @@
 from splitcosts.forms import worth_at
 from splitcosts.fracs import NIL, ONE, minus, times, total
 from splitcosts.rows import applied, dot, form_on, gap_of, mixed, multiplied, row_less, row_plus, table_less
-from splitcosts.rows import table_plus, turned_over, unit_row, unit_rows
-from splitcosts.spans import inverse
+from splitcosts.rows import spread, table_plus, turned_over, unit_row, unit_rows
+from splitcosts.spans import free_places, inverse
 
 
 def exact_aid_of(table, rows):
@@ -76,6 +76,23 @@ def mean_of(table, method):
 def added_up(method, split):
     """Return the row R' u that is split."""
     return mixed([number for part in split for number in part], rows_of(method))
+
+
+def cut_up(method, numbers):
+    """Return the NUMBERS, one for each row of the method, as a row for each aid."""
+    found = []
+    for rows, _ in method:
+        found.append(numbers[:len(rows)])
+        numbers = numbers[len(rows):]
+    return tuple(found)
+
+
+def unit_splits(method):
+    """Return a split for each unit row, among the first free rows of the method, which is whole."""
+    rows = rows_of(method)
+    places = free_places(rows)
+    shares = inverse([rows[at] for at in places])
+    return tuple([cut_up(method, spread(part, places, len(rows))) for part in shares])
 
 
 def cost_of(table, method, split):
