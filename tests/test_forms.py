@@ -71,6 +71,14 @@ class Spans(unittest.TestCase):
                 for row in basis:
                     self.assertFalse(any(h.times(rows, row)))
 
+    def test_free_places(self):
+        draw = h.draws(7)
+        for many in range(1, 6):
+            rows = [h.drawn_row(draw, many, 1) for _ in range(2 * many)] + [[Fraction(0)] * many]
+            draw.shuffle(rows)
+            free = [at for at in range(len(rows)) if h.rank(rows[:at + 1]) > h.rank(rows[:at])]
+            self.assertEqual(spans.free_places(h.table(rows)), free)
+
     def test_inverse(self):
         draw = h.draws(6)
         for many in range(1, 6):
